@@ -1,0 +1,1 @@
+"""The tests of withinbooks; `bash .ci/run` runs them all."""

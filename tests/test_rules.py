@@ -1,0 +1,130 @@
+"""Points 1 to 3: what holds for every function of the interface."""
+
+import inspect
+import unittest
+
+from tests.anything import odd_objects, same, spoil, twin
+from tests.asked import MISFITS, all_functions, odd_right_values, right_values, second_manual, wrong_values
+from withinbooks.errors import InvalidChange, PurseError
+from withinbooks.manuals import Manual, changed_by
+
+
+def told(value):
+    """What can be compared by same: a manual is told by its three lists."""
+    if isinstance(value, Manual):
+        return ["manual", value.manners(), value.beginnings(), value.ends()]
+    if isinstance(value, (list, tuple)):
+        return type(value)([told(thing) for thing in value])
+    return value
+
+
+class RulesTest(unittest.TestCase):
+    def refused(self, function, arguments, error, value):
+        with self.assertRaises(error) as caught:
+            function(*arguments)
+        self.assertIs(type(caught.exception), error)
+        self.assertIs(caught.exception.value, value)
+
+    def test_names_of_parameters(self):
+        for name, function, arguments in all_functions():
+            names = [parameter for parameter in inspect.signature(function).parameters]
+            self.assertEqual(names, [asked["name"] for asked in arguments], name)
+            by_name = dict(zip(names, right_values(arguments)))
+            self.assertTrue(same(told(function(**by_name)), told(function(*right_values(arguments)))), name)
+
+    def test_each_wrong_argument_is_refused(self):
+        for name, function, arguments in all_functions():
+            for at, asked in enumerate(arguments):
+                if asked["error"] is None:
+                    continue
+                for wrong in wrong_values(asked):
+                    passed = right_values(arguments)
+                    passed[at] = wrong
+                    with self.subTest(name=name, at=at, wrong=repr(wrong)[:200]):
+                        self.refused(function, passed, asked["error"], wrong)
+
+    def test_the_first_of_two_wrong_arguments_is_refused(self):
+        for name, function, arguments in all_functions():
+            for later in range(1, len(arguments)):
+                for first in range(later):
+                    self.refuse_both(name, function, arguments, first, later)
+
+    def refuse_both(self, name, function, arguments, first, later):
+        ahead = wrong_values(arguments[first])
+        behind = odd_objects()
+        if arguments[later]["error"] is not None:
+            behind = wrong_values(arguments[later])
+        for at, wrong in enumerate(ahead):
+            passed = right_values(arguments)
+            passed[first] = wrong
+            passed[later] = behind[at * 7 % len(behind)]
+            with self.subTest(name=name, first=first, later=later, wrong=repr(wrong)[:200]):
+                self.refused(function, passed, arguments[first]["error"], wrong)
+
+    def test_right_odd_objects_are_taken(self):
+        for name, function, arguments in all_functions():
+            for at, asked in enumerate(arguments):
+                if asked["error"] is None:
+                    continue
+                for value in odd_right_values(asked):
+                    passed = right_values(arguments)
+                    passed[at] = value
+                    with self.subTest(name=name, at=at, value=repr(value)[:200]):
+                        self.not_refused(function, passed, value)
+
+    def not_refused(self, function, passed, value):
+        """Another argument, or a change in a list, may be refused: it may not fit this one."""
+        try:
+            function(*passed)
+        except PurseError as error:
+            self.assertIsNot(error.value, value)
+
+    def test_judging_takes_any_object(self):
+        for name, function, arguments in all_functions():
+            if arguments[-1]["error"] is None:
+                for value in odd_objects():
+                    kept = told(value)
+                    with self.subTest(name=name, value=repr(value)[:200]):
+                        self.assertIs(type(function(*(right_values(arguments[:-1]) + [value]))), bool)
+                        self.assertTrue(same(told(value), kept) or not isinstance(value, (list, tuple, Manual)))
+
+    def test_the_first_change_that_does_not_fit_is_told(self):
+        for misfit in MISFITS:
+            changes = [("start", "out"), ("unstart", "out"), misfit, ("unstart", "nowhere")]
+            self.refused(changed_by, [second_manual(), changes], InvalidChange, changes[2])
+        changes = [("start", "pit"), ("start", "pit")]
+        self.refused(changed_by, [second_manual(), changes], InvalidChange, changes[1])
+
+    def test_arguments_are_not_changed(self):
+        for name, function, arguments in all_functions():
+            passed = right_values(arguments)
+            kept = [told(twin(value)) for value in passed]
+            function(*passed)
+            self.assertTrue(all(same(told(one), two) for one, two in zip(passed, kept)), name)
+
+    def test_results_are_new_and_equal(self):
+        for name, function, arguments in all_functions():
+            passed = right_values(arguments)
+            first = function(*passed)
+            kept = told(twin(first))
+            spoil(first)
+            if isinstance(first, Manual):
+                for part in [first.manners(), first.beginnings(), first.ends()]:
+                    part.clear()
+            self.assertTrue(same(told(function(*passed)), kept), name)
+            self.assertTrue(same(told(function(*[twin(value) for value in passed])), kept), name)
+
+    def test_a_manual_keeps_nothing_of_the_lists_that_it_was_made_of(self):
+        stay = ("in", "rest", "in", ("coins", 0))
+        manners, rooms = [stay], ["in"]
+        manual = Manual(manners, rooms, rooms)
+        manners.clear()
+        rooms.append("out")
+        self.assertEqual([manual.manners(), manual.beginnings(), manual.ends()], [[stay], ["in"], ["in"]])
+        for part in [manual.manners(), manual.beginnings(), manual.ends()]:
+            part.clear()
+        self.assertEqual([manual.manners(), manual.beginnings(), manual.ends()], [[stay], ["in"], ["in"]])
+
+
+if __name__ == "__main__":
+    unittest.main()

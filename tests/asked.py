@@ -1,78 +1,10 @@
-"""Every function of the interface that has landed: its arguments, and what may be wrong with them.
+"""Every function of the interface that has landed, by module, with its arguments."""
 
-An argument is a tuple of its name, a function that makes right values, the class of its
-error (None for `value`), and a function that makes wrong values in addition to the odd
-objects, and one that tells which of the odd objects are right.
-"""
-
-from tests.anything import CARRY, REST, odd_objects
-from tests.plain import is_plain_change, is_plain_count, is_plain_effect, is_plain_manner, is_plain_word
-from withinbooks import books, doing, errors, manuals
-from withinbooks.manuals import Manual
-
-AWAY, STAY = ("in", "carry", "out", ("coins", 0)), ("out", "rest", "out", ("coins", 0))
-
-
-def first_manual():
-    return Manual([REST, CARRY], ["in"], ["in"])
-
-
-def second_manual():
-    return Manual([CARRY, REST, AWAY, STAY], ["in"], ["out", "in"])
-
-
-def is_list_of(judge, unlike):
-    def judged(value):
-        if type(value) is not list or not all(judge(thing) for thing in value):
-            return False
-        return not unlike or all(value.count(thing) == 1 for thing in value)
-    return judged
-
-
-def is_manual(value):
-    return type(value) is Manual
-
-
-def argument(name, right, error, wrong=(), judge=None):
-    return {"name": name, "right": right, "error": error, "wrong": lambda: list(wrong), "judge": judge}
-
-
-ELDER = argument("elder", first_manual, errors.InvalidManual, judge=is_manual)
-NEWER = argument("newer", second_manual, errors.InvalidManual, judge=is_manual)
-MANUAL = argument("manual", second_manual, errors.InvalidManual, judge=is_manual)
-ONE, OTHER = {**ELDER, "name": "one"}, {**NEWER, "name": "other"}
-VALUE = argument("value", lambda: [], None)
-BOOK = argument("book", lambda: ["carry", "rest", "carry"], errors.InvalidBook,
-                judge=is_list_of(is_plain_word, False))
-PURSE = argument("purse", lambda: 1, errors.InvalidCount, judge=is_plain_count)
-LOW_PURSE = argument("purse", lambda: 0, errors.InvalidCount, judge=is_plain_count)
-EFFECT = argument("effect", lambda: ("coins", 2), errors.InvalidEffect, judge=is_plain_effect)
-OTHER_EFFECT = argument("other", lambda: ("fill", 1, 0), errors.InvalidEffect, judge=is_plain_effect)
-AHEAD = argument("ahead", lambda: 3, errors.InvalidCount, judge=is_plain_count)
-BEHIND = argument("behind", lambda: 0, errors.InvalidCount, judge=is_plain_count)
-ROOM = argument("room", lambda: "in", errors.InvalidRoom, ["inn", "carry"], lambda value: value in ["in", "out"])
-JOB = argument("job", lambda: "carry", errors.InvalidWord, judge=is_plain_word)
-MISFITS = [("put", CARRY), ("out", ("in", "carry", "in", ("coins", 2))), ("effect", CARRY, ("coins", 1)),
-           ("effect", ("out", "carry", "in", ("coins", 1)), ("coins", 1)), ("start", "in"), ("unstart", "out"),
-           ("stop", "out"), ("stop", "in"), ("unstop", "inn")]
-CHANGE = argument("change", lambda: ("put", ("in", "deal", "in", ("coins", 3))), errors.InvalidChange, MISFITS,
-                  lambda value: is_plain_change(value) and value not in MISFITS)
-CHANGES = argument("changes", lambda: [("start", "out"), ("out", CARRY)], errors.InvalidChanges,
-                   [(("start", "out"),), [("start", "out"), None], [["start", "out"]]],
-                   is_list_of(is_plain_change, False))
-MANNER = argument("manner", lambda: STAY, errors.InvalidManner, [("out", "rest", "out", ("coins", 1)), list(STAY)],
-                  lambda value: is_plain_manner(value) and value in second_manual().manners())
-WAY = argument("way", lambda: [CARRY, REST, AWAY, STAY], errors.InvalidWay,
-               [[STAY], [AWAY, CARRY], (CARRY,), [CARRY, list(REST)], [CARRY, ("in", "rest", "in", ("fill", 0, 1))]],
-               lambda value: value in [[], [CARRY], [REST], [CARRY, REST], [CARRY, CARRY]])
-SIZE = argument("size", lambda: 2, errors.InvalidCount, judge=is_plain_count)
-NUMBER = argument("number", lambda: 3, errors.InvalidCount, [4, 5],
-                  judge=lambda value: is_plain_count(value) and value < 4)
-MANNERS = argument("manners", lambda: [REST, CARRY], errors.InvalidManners, [[REST, CARRY, REST], (REST, CARRY)],
-                   is_list_of(is_plain_manner, True))
-BEGINNINGS = argument("beginnings", lambda: ["out", "in"], errors.InvalidRooms, [["a", "a"], ("a",), ["in", "In"]],
-                      is_list_of(is_plain_word, True))
-ENDS = {**BEGINNINGS, "name": "ends"}
+from tests.arguments import (
+    AHEAD, BEGINNINGS, BEHIND, BOOK, CARD, CHANGE, CHANGES, EFFECT, ELDER, ENDS, EXPRESSION, JOB, LEAST_CARD, LEFT,
+    LOW_PURSE, MANNER, MANNERS, MANUAL, MANUALS, MARK, NEWER, NUMBER, ONE, ONE_CARD, OPEN_EXPRESSION, OTHER, OTHER_CARD,
+    OTHER_EFFECT, OTHER_MARK, OTHER_ROOM, PURSE, REST_PURSE, ROOM, SIZE, VALUE, WAY, WRITING_NUMBER)
+from withinbooks import agains, books, cards, doing, manuals, rests, tables
 
 FUNCTIONS = {
     "manuals": {
@@ -99,26 +31,36 @@ FUNCTIONS = {
         "many_done": [MANUAL, SIZE], "done_book": [MANUAL, SIZE, NUMBER], "done_place": [MANUAL, BOOK],
         "growth": [MANUAL],
     },
+    "cards": {
+        "card_of": [MANUAL, BOOK], "cards_behind": [MANUAL, ONE_CARD, OTHER_CARD], "is_better": [MARK, OTHER_MARK],
+        "is_card": [MANUAL, VALUE], "is_best_part": [MANUAL, BOOK, ROOM, OTHER_ROOM, VALUE],
+        "marks_behind": [MARK, OTHER_MARK], "best_part": [MANUAL, BOOK, ROOM, OTHER_ROOM], "value_of": [MANUAL, CARD],
+    },
+    "agains": {
+        "again": [MANUAL, CARD], "expression_card": [MANUAL, EXPRESSION], "is_expression": [VALUE],
+        "is_steady": [MANUAL, CARD], "jobs_in": [OPEN_EXPRESSION], "kind_of": [MANUAL, EXPRESSION],
+        "nesting": [OPEN_EXPRESSION], "shows_growth": [MANUAL, EXPRESSION, WRITING_NUMBER],
+        "steady_power": [MANUAL, CARD], "written": [MANUALS, EXPRESSION, WRITING_NUMBER],
+        "written_size": [MANUALS, EXPRESSION, WRITING_NUMBER],
+    },
+    "tables": {
+        "calm_table": [MANUAL], "expression_for": [MANUAL, LEAST_CARD], "growing": [MANUAL], "growth_nesting": [MANUAL],
+        "is_calm_table": [MANUAL, VALUE], "is_expression_for": [MANUAL, LEAST_CARD, VALUE],
+        "is_growing": [MANUAL, VALUE], "is_table": [MANUAL, VALUE], "least_table": [MANUAL], "one_purse": [MANUAL],
+        "table_growth": [MANUAL],
+    },
+    "rests": {
+        "harder_book": [MANUAL, REST_PURSE], "hardest_book": [MANUAL], "is_harder_book": [MANUAL, REST_PURSE, VALUE],
+        "is_hardest_book": [MANUAL, VALUE], "is_rest_table": [MANUAL, REST_PURSE, VALUE], "least_purse": [MANUAL],
+        "rest_list": [MANUAL, REST_PURSE], "rest_table": [MANUAL, REST_PURSE],
+        "rests_behind": [MANUAL, REST_PURSE, LEFT, JOB], "rests_of": [MANUAL, REST_PURSE, BOOK],
+    },
 }
-MODULES = {"manuals": manuals, "books": books, "doing": doing}
+MODULES = {"manuals": manuals, "books": books, "doing": doing, "cards": cards, "agains": agains, "tables": tables,
+           "rests": rests}
 
 
 def all_functions():
     """Each function with its name and its arguments."""
     return [(name, getattr(MODULES[module], name), arguments)
             for module, rows in FUNCTIONS.items() for name, arguments in rows.items()]
-
-
-def wrong_values(asked):
-    """Odd objects, and others, that an argument must not be."""
-    return asked["wrong"]() + [value for value in odd_objects() if not asked["judge"](value)]
-
-
-def odd_right_values(asked):
-    """The odd objects that an argument may be, but sizes far beyond the limit, for which no call need end."""
-    values = [value for value in odd_objects() if asked["judge"](value)]
-    return [value for value in values if asked["name"] != "size" or value <= 40]
-
-
-def right_values(arguments):
-    return [asked["right"]() for asked in arguments]

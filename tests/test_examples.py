@@ -5,8 +5,14 @@ Where any result of some kind may be returned, the judging function is asked ins
 
 import unittest
 
-from withinbooks import books, doing, manuals
+from withinbooks import agains, books, cards, doing, manuals, rests, tables
 from withinbooks.manuals import Manual
+
+BOTH = [("in", "carry", "in", ("coins", 1)), ("in", "rest", "in", ("fill", 0, 0)),
+        ("out", "carry", "out", ("coins", 0)), ("out", "rest", "out", ("coins", 1))]
+DEEP = [("p", "a", "p", ("coins", 0)), ("q", "a", "q", ("coins", 1)), ("p", "b", "p", ("coins", 1)),
+        ("p", "b", "q", ("coins", 0)), ("q", "b", "p", ("fill", 0, 0))]
+HOP = [("in", "carry", "out", ("coins", 2)), ("out", "carry", "in", ("fill", 1, 0))]
 
 
 class ExamplesTest(unittest.TestCase):
@@ -72,6 +78,66 @@ class ExamplesTest(unittest.TestCase):
                 doing.done_place(stay, ["y", "x"]), doing.done_place(stay, ["y", "y"]), doing.many_done(once, 2)]
         self.assertEqual(told, [8, 5, ["x", "y"], 2, None, 0])
         self.assertEqual([doing.growth(one), doing.growth(stay), doing.growth(once)], [None, 1, -1])
+
+    def test_section_6(self):
+        carry, rest = ("in", "carry", "in", ("coins", 1)), ("in", "rest", "in", ("fill", 0, 0))
+        away, stay = ("in", "carry", "out", ("coins", 0)), ("out", "rest", "out", ("coins", 0))
+        one, two = Manual([carry, rest], ["in"], ["in"]), Manual([carry, rest, away, stay], ["in"], ["in", "out"])
+        told = [cards.card_of(one, ["carry", "rest"]), cards.card_of(two, ["carry"]), cards.card_of(two, []),
+                cards.card_of(two, ["pray"])]
+        self.assertEqual(told, [(("full",),), (("some", "free"), ("never", "never")), (("free", "never"), ("never", "free")),
+                                (("never", "never"), ("never", "never"))])
+        pairs = [("some", "full"), ("free", "some"), ("many", "full")]
+        self.assertEqual([cards.marks_behind(*pair) for pair in pairs], ["full", "some", "many"])
+        self.assertEqual(cards.best_part(two, ["carry", "rest"], "in", "out"), [away, stay])
+        self.assertTrue(cards.is_best_part(two, ["carry", "rest"], "in", "out", [away, stay]))
+        carried = cards.card_of(two, ["carry"])
+        told = [cards.cards_behind(two, carried, carried), agains.steady_power(two, carried), agains.again(two, carried),
+                cards.value_of(two, carried)]
+        self.assertEqual(told, [(("some", "some"), ("never", "never")), 2, (("many", "many"), ("never", "never")), "free"])
+        by_turns = ("again", ("row", ["carry", "rest"]))
+        told = [agains.expression_card(two, by_turns), agains.kind_of(two, by_turns), agains.kind_of(two, ("again", "carry")),
+                agains.kind_of(two, ("row", ["rest", "pray"]))]
+        self.assertEqual(told, [(("full", "full"), ("never", "never")), "bounded", "grows", "never"])
+        told = [agains.written([two], ("again", "carry"), 0), agains.written_size([one, two], by_turns, 10 ** 20),
+                agains.shows_growth(two, ("again", "carry"), 0), agains.written([one], ("again", ("row", [])), 10 ** 29)]
+        self.assertEqual(told, [["carry", "carry", "carry", "carry"], 800000000000000000008, (3, True), []])
+        told = [cards.is_best_part(one, [], "in", "in", []), cards.is_best_part(two, ["carry"], "in", "in", [away]),
+                cards.best_part(two, ["carry"], "out", "in")]
+        self.assertEqual(told, [True, False, None])
+
+    def test_section_7(self):
+        one = Manual([("in", "carry", "in", ("coins", 1)), ("in", "rest", "in", ("fill", 0, 0))], ["in"], ["in"])
+        both, deep = Manual(BOTH, ["in", "out"], ["in", "out"]), Manual(DEEP, ["p"], ["p"])
+        hop = Manual(HOP, ["in"], ["in", "out"])
+        told = [tables.least_table(one), tables.is_table(one, [(("free",),)]), tables.one_purse(one),
+                tables.calm_table(one), tables.is_growing(one, ("again", "carry"))]
+        self.assertEqual(told, [[(("free",),), (("full",),), (("many",),), (("some",),)], False, False, None, True])
+        told = [tables.one_purse(hop), tables.is_calm_table(hop, tables.least_table(hop)), tables.growing(hop),
+                tables.growth_nesting(both), tables.growth_nesting(deep)]
+        self.assertEqual(told, [True, True, None, 1, 2])
+        self.assertEqual([tables.table_growth(manual) for manual in [one, hop, both, deep]],
+                         [[3, 4], [4], [3, 7], [6, 19, 20]])
+        told = [tables.is_growing(both, ("row", [("again", "carry"), ("again", "rest")])),
+                tables.is_growing(both, ("again", "carry")),
+                tables.is_growing(deep, ("again", ("row", [("again", "a"), "b"])))]
+        self.assertEqual(told, [True, False, True])
+        self.assertTrue(tables.is_expression_for(one, (("many",),), ("row", [("again", "carry"), "rest"])))
+
+    def test_section_8_rests(self):
+        one = Manual([("in", "carry", "in", ("coins", 1)), ("in", "rest", "in", ("fill", 0, 0))], ["in"], ["in"])
+        hop = Manual(HOP, ["in"], ["in", "out"])
+        told = [rests.rests_of(hop, 3, ["carry"]), rests.rests_of(hop, 2, ["carry", "carry"]),
+                rests.rests_behind(hop, 3, ("never", 1), "carry"), rests.rest_list(hop, 3)]
+        self.assertEqual(told, [("never", 1), ("short", "never"), (3, "never"), [(3, "never"), ("never", 1)]])
+        told = [rests.is_rest_table(hop, 3, rests.rest_list(hop, 3)), rests.is_rest_table(hop, 2, rests.rest_list(hop, 2)),
+                rests.least_purse(hop), rests.least_purse(one)]
+        self.assertEqual(told, [True, False, 3, None])
+        self.assertTrue(rests.is_hardest_book(hop, ["carry", "carry"]))
+        self.assertTrue(rests.is_hardest_book(hop, rests.hardest_book(hop)))
+        self.assertTrue(rests.is_harder_book(one, 2, ["carry", "carry", "carry"]))
+        self.assertTrue(rests.is_harder_book(one, 2, rests.harder_book(one, 2)))
+        self.assertIsNone(rests.harder_book(hop, 3))
 
 
 if __name__ == "__main__":

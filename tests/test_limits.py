@@ -1,16 +1,14 @@
 """Point 3: at its limits every call ends soon."""
 
 import random
-import time
 import unittest
 
 from tests.anything import same, twin
 from tests.drawn import JOBS, widest_manual
+from tests.soon import SoonTest
 from withinbooks import books, doing, manuals
 from withinbooks.manuals import Manual
 
-# Each call takes a small part of a second; a slow machine may take ten times as long.
-MOST_SECONDS = 5
 FREE = ("coins", 0)
 
 
@@ -32,13 +30,7 @@ def turning(rooms):
     return Manual(manners, names, names[:1])
 
 
-class LimitsTest(unittest.TestCase):
-    def soon(self, function, *arguments):
-        begun = time.perf_counter()
-        result = function(*arguments)
-        self.assertLess(time.perf_counter() - begun, MOST_SECONDS, function.__name__)
-        return result
-
+class LimitsTest(SoonTest):
     def widest(self):
         made = [widest_manual(seed) for seed in range(3)] + [widest_manual(4, rooms=6, manners=24), turning(4), turning(6)]
         return made + [widest_manual(5, rooms=1, jobs=1, manners=16), widest_manual(6, fills=1), widest_manual(7, fills=0)]

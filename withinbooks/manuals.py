@@ -4,7 +4,8 @@ from withinbooks.changes import fewest_changes, parts_changed
 from withinbooks.checks import check_count, check_effect, check_manner, check_room, check_word
 from withinbooks.covers import are_beginnings_covered, greatest_cover, is_any_cover
 from withinbooks.effects import is_never_more, sides_apart, worth
-from withinbooks.errors import InvalidChange, InvalidChanges, InvalidManners, InvalidManual, InvalidRooms
+from withinbooks.errors import InvalidChange, InvalidChanges, InvalidManners, InvalidManual, InvalidManuals
+from withinbooks.errors import InvalidRooms
 from withinbooks.paths import all_jobs, all_rooms, busy_rooms, is_some_way, living_rooms, shortest_used
 from withinbooks.shapes import has_change_form, has_changes_form, has_effect_form, has_manner_form
 from withinbooks.shapes import has_manners_form, has_rooms_form, has_word_form, is_count, is_tuple_of
@@ -51,6 +52,12 @@ def check_both(one, other):
     """InvalidManual with the first of two objects that is no manual."""
     check_manual(one)
     check_manual(other)
+
+
+def check_manuals(value):
+    """InvalidManuals unless an object is a list of manuals that is not empty."""
+    if not isinstance(value, list) or not value or not all([isinstance(one, Manual) for one in value]):
+        raise InvalidManuals(value)
 
 
 def is_word(value):

@@ -74,15 +74,20 @@ def shortest_way(manual):
     return min(ways, key=len, default=None)
 
 
-def is_some_way(manual, value):
-    """Whether any object is a way of some book."""
+def is_some_part(manual, value):
+    """Whether any object is a part of a way."""
     if not isinstance(value, list):
         return False
     manners = manual.manners()
     if not all([has_manner_form(manner) and manner in manners for manner in value]):
         return False
+    return all([value[at - 1][2] == value[at][0] for at in range(1, len(value))])
+
+
+def is_some_way(manual, value):
+    """Whether any object is a way of some book."""
+    if not is_some_part(manual, value):
+        return False
     if not value:
         return any([room in manual.ends() for room in manual.beginnings()])
-    if any([value[at - 1][2] != value[at][0] for at in range(1, len(value))]):
-        return False
     return value[0][0] in manual.beginnings() and value[-1][2] in manual.ends()

@@ -8,6 +8,7 @@ LONGEST_WORD = 8
 MOST_COINS = 3
 NUMBERS_BEHIND = {"coins": 1, "fill": 2}
 ROOM_CHANGES = ("start", "unstart", "stop", "unstop")
+MARKS = ("full", "free", "some", "many", "never")
 
 
 def is_count(value):
@@ -74,6 +75,47 @@ def has_change_form(value):
 def has_changes_form(value):
     """Whether any object is a list of changes by their form."""
     return isinstance(value, list) and all([has_change_form(change) for change in value])
+
+
+def has_mark_form(value):
+    """Whether any object is a mark."""
+    return isinstance(value, str) and value in MARKS
+
+
+def has_card_form(value, size):
+    """Whether any object is a card for so many rooms."""
+    if not is_tuple_of(value, size) or not all([is_tuple_of(row, size) for row in value]):
+        return False
+    return all([has_mark_form(mark) for row in value for mark in row])
+
+
+def has_rests_form(value, size, purse):
+    """Whether any object is a tuple of "never", "short" or a count of at most a purse, for so many rooms."""
+    if not is_tuple_of(value, size):
+        return False
+    return all([has_rest_form(entry, purse) for entry in value])
+
+
+def has_rest_form(value, purse):
+    """Whether any object is "never", "short" or a count of at most a purse."""
+    if isinstance(value, str):
+        return value in ("never", "short")
+    return is_count(value) and value <= purse
+
+
+def has_expression_form(value, placed):
+    """Whether any object is an expression; if placed, places may stand in it."""
+    if isinstance(value, str):
+        return has_word_form(value)
+    if is_tuple_of(value, 1):
+        return placed and value[0] == "place"
+    if not is_tuple_of(value, 2):
+        return False
+    if value[0] == "again":
+        return has_expression_form(value[1], placed)
+    if value[0] != "row" or not isinstance(value[1], list):
+        return False
+    return all([has_expression_form(part, placed) for part in value[1]])
 
 
 def are_unlike(values):

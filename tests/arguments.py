@@ -1,0 +1,117 @@
+"""Arguments of the functions of the interface, and what may be wrong with them.
+
+An argument is a dictionary of its name, a function that makes right values, the class of
+its error (None for `value`), a function that makes wrong values in addition to the odd
+objects, one that tells which of the odd objects are right, and, as "most", up to which
+number the call has to end (None if there is no such number).
+"""
+
+from tests.anything import CARRY, REST, odd_objects
+from tests.plain import is_plain_change, is_plain_count, is_plain_effect, is_plain_manner, is_plain_word
+from tests.plain_cards import is_plain_card, is_plain_expression, is_plain_mark, is_plain_rests, plain_table
+from withinbooks import errors
+from withinbooks.manuals import Manual
+
+AWAY, STAY = ("in", "carry", "out", ("coins", 0)), ("out", "rest", "out", ("coins", 0))
+
+
+def first_manual():
+    return Manual([REST, CARRY], ["in"], ["in"])
+
+
+def second_manual():
+    return Manual([CARRY, REST, AWAY, STAY], ["in"], ["out", "in"])
+
+
+def is_list_of(judge, unlike):
+    def judged(value):
+        if type(value) is not list or not all(judge(thing) for thing in value):
+            return False
+        return not unlike or all(value.count(thing) == 1 for thing in value)
+    return judged
+
+
+def is_manual(value):
+    return type(value) is Manual
+
+
+def argument(name, right, error, wrong=(), judge=None, most=None):
+    return {"name": name, "right": right, "error": error, "wrong": lambda: list(wrong), "judge": judge, "most": most}
+
+
+def wrong_values(asked):
+    """Odd objects, and others, that an argument must not be."""
+    return asked["wrong"]() + [value for value in odd_objects() if not asked["judge"](value)]
+
+
+def odd_right_values(asked):
+    """The odd objects that an argument may be, but numbers far beyond the limit, for which no call need end."""
+    values = [value for value in odd_objects() if asked["judge"](value)]
+    return [value for value in values if asked["most"] is None or value <= asked["most"]]
+
+
+def right_values(arguments):
+    return [asked["right"]() for asked in arguments]
+
+
+ELDER = argument("elder", first_manual, errors.InvalidManual, judge=is_manual)
+NEWER = argument("newer", second_manual, errors.InvalidManual, judge=is_manual)
+MANUAL = argument("manual", second_manual, errors.InvalidManual, judge=is_manual)
+ONE, OTHER = {**ELDER, "name": "one"}, {**NEWER, "name": "other"}
+VALUE = argument("value", lambda: [], None)
+BOOK = argument("book", lambda: ["carry", "rest", "carry"], errors.InvalidBook,
+                judge=is_list_of(is_plain_word, False))
+PURSE = argument("purse", lambda: 1, errors.InvalidCount, judge=is_plain_count)
+LOW_PURSE = argument("purse", lambda: 0, errors.InvalidCount, judge=is_plain_count)
+EFFECT = argument("effect", lambda: ("coins", 2), errors.InvalidEffect, judge=is_plain_effect)
+OTHER_EFFECT = argument("other", lambda: ("fill", 1, 0), errors.InvalidEffect, judge=is_plain_effect)
+AHEAD = argument("ahead", lambda: 3, errors.InvalidCount, judge=is_plain_count)
+BEHIND = argument("behind", lambda: 0, errors.InvalidCount, judge=is_plain_count)
+ROOM = argument("room", lambda: "in", errors.InvalidRoom, ["inn", "carry"], lambda value: value in ["in", "out"])
+JOB = argument("job", lambda: "carry", errors.InvalidWord, judge=is_plain_word)
+MISFITS = [("put", CARRY), ("out", ("in", "carry", "in", ("coins", 2))), ("effect", CARRY, ("coins", 1)),
+           ("effect", ("out", "carry", "in", ("coins", 1)), ("coins", 1)), ("start", "in"), ("unstart", "out"),
+           ("stop", "out"), ("stop", "in"), ("unstop", "inn")]
+CHANGE = argument("change", lambda: ("put", ("in", "deal", "in", ("coins", 3))), errors.InvalidChange, MISFITS,
+                  lambda value: is_plain_change(value) and value not in MISFITS)
+CHANGES = argument("changes", lambda: [("start", "out"), ("out", CARRY)], errors.InvalidChanges,
+                   [(("start", "out"),), [("start", "out"), None], [["start", "out"]]],
+                   is_list_of(is_plain_change, False))
+MANNER = argument("manner", lambda: STAY, errors.InvalidManner, [("out", "rest", "out", ("coins", 1)), list(STAY)],
+                  lambda value: is_plain_manner(value) and value in second_manual().manners())
+WAY = argument("way", lambda: [CARRY, REST, AWAY, STAY], errors.InvalidWay,
+               [[STAY], [AWAY, CARRY], (CARRY,), [CARRY, list(REST)], [CARRY, ("in", "rest", "in", ("fill", 0, 1))]],
+               lambda value: value in [[], [CARRY], [REST], [CARRY, REST], [CARRY, CARRY]])
+SIZE = argument("size", lambda: 2, errors.InvalidCount, judge=is_plain_count, most=40)
+NUMBER = argument("number", lambda: 3, errors.InvalidCount, [4, 5],
+                  judge=lambda value: is_plain_count(value) and value < 4)
+MANNERS = argument("manners", lambda: [REST, CARRY], errors.InvalidManners, [[REST, CARRY, REST], (REST, CARRY)],
+                   is_list_of(is_plain_manner, True))
+BEGINNINGS = argument("beginnings", lambda: ["out", "in"], errors.InvalidRooms, [["a", "a"], ("a",), ["in", "In"]],
+                      is_list_of(is_plain_word, True))
+ENDS = {**BEGINNINGS, "name": "ends"}
+
+MARK = argument("one", lambda: "some", errors.InvalidMark, ["Full", "bounded", ("free",)], is_plain_mark)
+OTHER_MARK = {**MARK, "name": "other"}
+TWO_ROOMS_CARD = (("some", "free"), ("never", "never"))
+CARD = argument("card", lambda: TWO_ROOMS_CARD, errors.InvalidCard,
+                [list(TWO_ROOMS_CARD), (["some", "free"], ["never", "never"]), TWO_ROOMS_CARD + (("never", "never"),),
+                 (("some", "free"), ("never", True)), (("some", "free"), ("never",)), (("some", "free"),)],
+                lambda value: is_plain_card(value, 2))
+ONE_CARD, OTHER_CARD = {**CARD, "name": "one"}, {**CARD, "name": "other"}
+LEAST_CARD = {**CARD, "judge": lambda value: is_plain_card(value, 2) and value in plain_table(second_manual())}
+OTHER_ROOM = {**ROOM, "name": "other"}
+EXPRESSION = argument("expression", lambda: ("row", ["carry", ("again", "rest")]), errors.InvalidExpression,
+                      [("row", ("carry",)), ["row", ["carry"]], ("row", ["carry", ["rest"]]), ("again", "carry", "rest"),
+                       ("row", ["carry", ("again", ("place",))]), ("row", ["carry", None])], is_plain_expression)
+OPEN_EXPRESSION = argument("expression", lambda: ("row", ["carry", ("again", ("place",)), "carry"]),
+                           errors.InvalidExpression, [("row", ("carry",)), ["place"], ("place", "carry"), ("again",)],
+                           lambda value: is_plain_expression(value, True))
+MANUALS = argument("manuals", lambda: [first_manual(), second_manual()], errors.InvalidManuals,
+                   [(first_manual(),), [first_manual(), None], [[first_manual()]], []],
+                   lambda value: type(value) is list and len(value) > 0 and all(is_manual(one) for one in value))
+WRITING_NUMBER = argument("number", lambda: 1, errors.InvalidCount, judge=is_plain_count)
+REST_PURSE = argument("purse", lambda: 1, errors.InvalidCount, judge=is_plain_count, most=12)
+LEFT = argument("left", lambda: (1, "short"), errors.InvalidRests,
+                [[1, "short"], (1, "short", 0), (1,), (2, "short"), (True, "short"), (1, "Short"), (1, None), (-1, 0)],
+                lambda value: is_plain_rests(value, 2, 1))

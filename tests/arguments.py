@@ -115,3 +115,36 @@ REST_PURSE = argument("purse", lambda: 1, errors.InvalidCount, judge=is_plain_co
 LEFT = argument("left", lambda: (1, "short"), errors.InvalidRests,
                 [[1, "short"], (1, "short", 0), (1,), (2, "short"), (True, "short"), (1, "Short"), (1, None), (-1, 0)],
                 lambda value: is_plain_rests(value, 2, 1))
+
+SECOND_PURSE = {**REST_PURSE, "name": "other", "most": 40}
+STEP_PURSE = {**REST_PURSE, "most": 3}
+ABOVE_PURSE = {**REST_PURSE, "right": lambda: 0}
+EDITIONS = {**MANUALS, "name": "editions"}
+GROWING = {**EXPRESSION, "right": lambda: ("row", ["rest", ("again", "carry"), ("again", "rest")])}
+
+
+def freed_manual():
+    """A manual for all of whose books one purse serves, so that it can be told whether any needs more."""
+    return Manual([CARRY[:3] + (("coins", 0),), REST], ["in"], ["in"])
+
+
+def stray_manual():
+    """A manual that does not stay within the first one."""
+    return Manual([CARRY, ("in", "rest", "in", ("coins", 0))], ["in"], ["in"])
+
+
+ELDER_CALM = {**ELDER, "right": freed_manual}
+STRAY = {**NEWER, "right": stray_manual}
+LOT_OF_JOBS = argument("lot", lambda: ["carry", "pray"], errors.InvalidLot,
+                       [["rest", "carry"], ["carry", "carry"], ("carry",), ["carry", 1]],
+                       lambda value: is_list_of(is_plain_word, True)(value) and value == sorted(value))
+SPENDING = argument("lot", lambda: [CARRY], errors.InvalidLot, [[CARRY, CARRY], (CARRY,), [AWAY], [CARRY, AWAY], [REST]],
+                    lambda value: value in [[], [CARRY]])
+FILLING = {**SPENDING, "right": lambda: [REST], "wrong": lambda: [[REST, REST], (REST,), [AWAY], [CARRY, REST], [CARRY]],
+           "judge": lambda value: value in [[], [REST]]}
+MOVES = argument("changes", lambda: [("effect", REST, ("coins", 0)), ("effect", CARRY, ("coins", 0)), ("start", "in")],
+                 errors.InvalidChanges, [(("start", "out"),), [("start", "out"), None], [["start", "out"]]],
+                 is_list_of(is_plain_change, False))
+PLACES = argument("lot", lambda: [0, 1], errors.InvalidLot, [[1, 0], [0, 0], (0, 1), [0, 3], [-1], [True], [0, True]],
+                  lambda value: is_list_of(is_plain_count, True)(value) and value in [
+                      [], [0], [1], [2], [0, 1], [0, 2], [1, 2], [0, 1, 2]])

@@ -1,10 +1,12 @@
 """Every function of the interface that has landed, by module, with its arguments."""
 
 from tests.arguments import (
-    AHEAD, BEGINNINGS, BEHIND, BOOK, CARD, CHANGE, CHANGES, EFFECT, ELDER, ENDS, EXPRESSION, JOB, LEAST_CARD, LEFT,
-    LOW_PURSE, MANNER, MANNERS, MANUAL, MANUALS, MARK, NEWER, NUMBER, ONE, ONE_CARD, OPEN_EXPRESSION, OTHER, OTHER_CARD,
-    OTHER_EFFECT, OTHER_MARK, OTHER_ROOM, PURSE, REST_PURSE, ROOM, SIZE, VALUE, WAY, WRITING_NUMBER)
-from withinbooks import agains, books, cards, doing, manuals, rests, tables
+    ABOVE_PURSE, AHEAD, BEGINNINGS, BEHIND, BOOK, CARD, CHANGE, CHANGES, EDITIONS, EFFECT, ELDER, ELDER_CALM, ENDS,
+    EXPRESSION, FILLING, GROWING, JOB, LEAST_CARD, LEFT, LOT_OF_JOBS, LOW_PURSE, MANNER, MANNERS, MANUAL, MANUALS, MARK,
+    MOVES, NEWER, NUMBER, ONE, ONE_CARD, OPEN_EXPRESSION, OTHER, OTHER_CARD, OTHER_EFFECT, OTHER_MARK, OTHER_ROOM,
+    PLACES, PURSE, REST_PURSE, ROOM, SECOND_PURSE, SIZE, SPENDING, STEP_PURSE, STRAY, VALUE, WAY, WRITING_NUMBER)
+from withinbooks import (
+    agains, blame, books, bounds, cards, ceilings, doing, manuals, rests, tables, within)
 
 FUNCTIONS = {
     "manuals": {
@@ -55,9 +57,33 @@ FUNCTIONS = {
         "rest_list": [MANUAL, REST_PURSE], "rest_table": [MANUAL, REST_PURSE],
         "rests_behind": [MANUAL, REST_PURSE, LEFT, JOB], "rests_of": [MANUAL, REST_PURSE, BOOK],
     },
+    "ceilings": {
+        "book_above": [MANUAL, GROWING, ABOVE_PURSE], "ceiling": [MANUAL, EXPRESSION],
+        "is_book_above": [MANUAL, GROWING, ABOVE_PURSE, VALUE], "is_book_of": [MANUAL, EXPRESSION, BOOK],
+        "is_top_book": [MANUAL, EXPRESSION, VALUE], "top_book": [MANUAL, EXPRESSION],
+    },
+    "within": {
+        "least_pairs": [ELDER, NEWER], "is_pair_table": [ELDER, NEWER, VALUE], "bad_pairs": [ELDER, STRAY],
+        "is_within": [ELDER, NEWER], "escape": [ELDER, STRAY], "escape_size": [ELDER, STRAY],
+        "is_escape": [ELDER, STRAY, VALUE], "are_alike": [ONE, OTHER], "freed": [MANUAL], "within_along": [EDITIONS],
+    },
+    "bounds": {
+        "unserved_book": [ELDER, STRAY, REST_PURSE, SECOND_PURSE],
+        "is_unserved_book": [ELDER, STRAY, REST_PURSE, SECOND_PURSE, VALUE], "bound_at": [ELDER, NEWER, REST_PURSE],
+        "hardest_at": [ELDER, NEWER, REST_PURSE], "is_hardest_at": [ELDER, NEWER, REST_PURSE, VALUE],
+        "outrun": [ELDER, STRAY, STEP_PURSE], "is_outrun": [ELDER, STRAY, STEP_PURSE, VALUE],
+        "never_more": [ELDER_CALM, NEWER], "more_book": [ELDER_CALM, STRAY], "is_more_book": [ELDER_CALM, STRAY, VALUE],
+    },
+    "blame": {
+        "over_jobs": [MANUAL, LOT_OF_JOBS], "blamed_jobs": [ELDER, STRAY], "safe_jobs": [ELDER, STRAY],
+        "blame_escapes": [ELDER, STRAY], "are_blame_escapes": [ELDER, STRAY, VALUE], "made_free": [MANUAL, SPENDING],
+        "made_filling": [MANUAL, SPENDING], "cures": [ELDER, STRAY], "fill_cures": [ELDER, STRAY],
+        "emptied": [MANUAL, FILLING], "spare_fills": [ELDER, NEWER], "needed_fills": [ELDER, NEWER],
+        "lot_edition": [ELDER, MOVES, PLACES], "straying_lots": [ELDER, MOVES], "staying_lots": [ELDER, MOVES],
+    },
 }
 MODULES = {"manuals": manuals, "books": books, "doing": doing, "cards": cards, "agains": agains, "tables": tables,
-           "rests": rests}
+           "rests": rests, "ceilings": ceilings, "within": within, "bounds": bounds, "blame": blame}
 
 
 def all_functions():

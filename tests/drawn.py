@@ -68,6 +68,22 @@ def drawn_neighbour(draw, manual):
     return Manual(manners, manual.beginnings(), ends)
 
 
+def close_pairs(seed, many, jobs=2, manners=5):
+    """So many pairs that do much the same, so that what is spent tells whether the newer one stays within."""
+    draw = random.Random(seed)
+    pairs = []
+    while len(pairs) < many:
+        elder = drawn_manual(draw, 2, jobs, manners, 0.3)
+        elder = Manual(elder.manners(), ["a"], draw.choice([["a"], ["b"], ["a", "b"]]))
+        newer = []
+        for manner in elder.manners():
+            effect = draw.choice([("coins", 0), ("coins", 1), ("fill", 0, 0)]) if draw.random() < 0.5 else manner[3]
+            if manner[:3] + (effect,) not in newer:
+                newer.append(manner[:3] + (effect,))
+        pairs.append((elder, Manual(newer, elder.beginnings(), elder.ends())))
+    return pairs
+
+
 def books_of_size(jobs, size):
     """All books of so many of these jobs, ascending."""
     return [list(book) for book in itertools.product(sorted(jobs), repeat=size)]

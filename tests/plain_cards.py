@@ -160,15 +160,13 @@ def plain_nesting(expression):
 
 def plain_closed(first, jobs, behind, again):
     """The least list with the first thing, and with each what each job, and each again of a steady one, makes behind."""
-    found = [first]
+    found, made = [first], {}
     while True:
         makers = jobs + [again(one) for one in found if behind(one, one) == one]
-        fresh = []
-        for one in found:
-            for maker in makers:
-                made = behind(one, maker)
-                if made not in found and made not in fresh:
-                    fresh.append(made)
+        for one, maker in itertools.product(found, makers):
+            if (one, maker) not in made:
+                made[one, maker] = behind(one, maker)
+        fresh = sorted(set(made.values()) - set(found))
         if not fresh:
             return sorted(found)
         found = found + fresh

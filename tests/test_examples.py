@@ -5,7 +5,7 @@ Where any result of some kind may be returned, the judging function is asked ins
 
 import unittest
 
-from withinbooks import agains, books, cards, doing, manuals, rests, tables
+from withinbooks import agains, blame, books, bounds, cards, ceilings, doing, manuals, rests, tables, within
 from withinbooks.manuals import Manual
 
 BOTH = [("in", "carry", "in", ("coins", 1)), ("in", "rest", "in", ("fill", 0, 0)),
@@ -138,6 +138,86 @@ class ExamplesTest(unittest.TestCase):
         self.assertTrue(rests.is_harder_book(one, 2, ["carry", "carry", "carry"]))
         self.assertTrue(rests.is_harder_book(one, 2, rests.harder_book(one, 2)))
         self.assertIsNone(rests.harder_book(hop, 3))
+
+    def test_section_8_ceilings(self):
+        one = Manual([("in", "carry", "in", ("coins", 1)), ("in", "rest", "in", ("fill", 0, 0))], ["in"], ["in"])
+        hop, many = Manual(HOP, ["in"], ["in", "out"]), ("again", "carry")
+        told = [ceilings.is_book_of(hop, many, ["carry"] * 4), ceilings.is_book_of(hop, many, ["carry"]),
+                ceilings.ceiling(hop, many), ceilings.top_book(hop, many)]
+        self.assertEqual(told, [True, False, 3, ["carry", "carry"]])
+        self.assertTrue(ceilings.is_top_book(hop, many, ["carry", "carry"]))
+        told = [ceilings.ceiling(one, ("row", ["carry", "carry", "rest"])), ceilings.ceiling(one, many),
+                ceilings.book_above(one, many, 2)]
+        self.assertEqual(told, [2, None, ["carry", "carry", "carry"]])
+        self.assertTrue(ceilings.is_book_above(one, many, 2, ["carry", "carry", "carry"]))
+
+    def section_9(self):
+        rest, doze = ("in", "rest", "in", ("fill", 0, 0)), ("in", "rest", "in", ("coins", 0))
+        early = Manual([("in", "carry", "in", ("coins", 1)), rest], ["in"], ["in"])
+        late = Manual([("in", "carry", "in", ("coins", 1)), doze], ["in"], ["in"])
+        heavy = Manual([("in", "carry", "in", ("coins", 3)), rest], ["in"], ["in"])
+        calm = Manual([("in", "carry", "in", ("fill", 1, 0)), rest], ["in"], ["in"])
+        return early, late, heavy, calm
+
+    def test_section_9_within(self):
+        early, late, heavy, calm = self.section_9()
+        self.assertEqual([(one[0][0], two[0][0]) for one, two in within.least_pairs(early, late)],
+                         [("free", "free"), ("full", "free"), ("full", "many"), ("full", "some"), ("many", "many"),
+                          ("some", "some")])
+        told = [within.bad_pairs(early, late), within.is_within(early, late), within.is_within(late, early),
+                within.are_alike(early, heavy)]
+        self.assertEqual(told, [[((("full",),), (("many",),))], False, True, True])
+        by_turns = ("again", ("row", ["carry", "rest"]))
+        told = [within.is_escape(early, late, by_turns), within.is_escape(early, late, ("again", "carry")),
+                within.escape_size(early, late), within.escape_size(late, early)]
+        self.assertEqual(told, [True, False, 2, None])
+        self.assertTrue(within.is_escape(early, late, within.escape(early, late)))
+        told = [within.is_within(within.freed(calm), calm), within.is_within(within.freed(early), early),
+                within.within_along([late, early, heavy])]
+        self.assertEqual(told, [True, False, True])
+
+    def test_section_9_bounds(self):
+        early, late, heavy, calm = self.section_9()
+        book = ["carry", "rest", "carry", "rest", "carry"]
+        self.assertTrue(bounds.is_unserved_book(early, late, 1, 2, book))
+        self.assertTrue(bounds.is_unserved_book(early, late, 1, 2, bounds.unserved_book(early, late, 1, 2)))
+        told = [bounds.bound_at(early, heavy, 2), bounds.hardest_at(early, heavy, 2), bounds.bound_at(early, late, 0),
+                bounds.bound_at(early, late, 1)]
+        self.assertEqual(told, [6, ["carry", "carry"], 0, None])
+        self.assertTrue(bounds.is_hardest_at(early, heavy, 2, ["carry", "carry"]))
+        by_turns = ("again", ("row", ["carry", "rest"]))
+        told = [bounds.is_outrun(early, late, 1, by_turns), bounds.is_outrun(early, late, 0, by_turns),
+                bounds.outrun(early, heavy, 2)]
+        self.assertEqual(told, [True, False, None])
+        free = within.freed(calm)
+        self.assertEqual([bounds.never_more(early, calm), bounds.more_book(free, calm)], [True, ["carry"]])
+        self.assertTrue(bounds.is_more_book(free, calm, ["carry"]))
+
+    def test_section_10(self):
+        rest, doze = ("in", "rest", "in", ("fill", 0, 0)), ("in", "rest", "in", ("coins", 0))
+        carry, pay = ("in", "carry", "in", ("coins", 1)), ("out", "deal", "in", ("coins", 1))
+        early, late = Manual([carry, rest], ["in"], ["in"]), Manual([carry, doze], ["in"], ["in"])
+        told = [blame.blamed_jobs(early, late), blame.safe_jobs(early, late),
+                blame.over_jobs(early, ["rest"]) == Manual([rest], ["in"], ["in"])]
+        self.assertEqual(told, [[["carry", "rest"]], [["carry"], ["rest"]], True])
+        told = [blame.cures(early, late), blame.fill_cures(early, late), blame.cures(late, early)]
+        self.assertEqual(told, [[[carry]], [[carry]], [[]]])
+        full = Manual([("in", "carry", "in", ("fill", 1, 0)), doze], ["in"], ["in"])
+        self.assertTrue(blame.made_filling(late, [carry]) == full and blame.emptied(early, [rest]) == late)
+        told = [blame.spare_fills(late, early), blame.needed_fills(late, early), blame.spare_fills(early, early),
+                blame.needed_fills(early, early)]
+        self.assertEqual(told, [[[rest]], [], [[]], [rest]])
+        first = Manual([carry, ("in", "deal", "in", ("coins", 0)), rest], ["in"], ["in"])
+        gone = [("in", "carry", "out", ("coins", 0)), ("out", "carry", "out", ("coins", 0)),
+                ("out", "rest", "out", ("coins", 0))]
+        second = Manual(gone + [pay, ("in", "deal", "in", ("fill", 0, 0)), doze], ["in"], ["in", "out"])
+        self.assertEqual([blame.blamed_jobs(first, second), blame.safe_jobs(first, second)],
+                         [[["carry", "deal", "rest"]], [["carry", "deal"], ["carry", "rest"], ["deal", "rest"]]])
+        self.assertTrue(blame.are_blame_escapes(first, second, [("again", ("row", ["carry", "deal", "rest"]))]))
+        self.assertTrue(blame.are_blame_escapes(first, second, blame.blame_escapes(first, second)))
+        self.assertEqual(blame.cures(first, second), [[pay]])
+        moves = [("effect", rest, ("coins", 0)), ("effect", carry, ("coins", 0))]
+        self.assertEqual([blame.straying_lots(early, moves), blame.staying_lots(early, moves)], [[[0]], [[0, 1]]])
 
 
 if __name__ == "__main__":

@@ -85,15 +85,20 @@ class RestRows:
         self._least = least
         starts = rooms_at(manual, manual.beginnings())
         first = tuple([purse + COINS if at in starts else least for at in range(len(all_rooms(manual)))])
-        self.rows = [first]
-        self._numbers = {first: 0}
+        self.rows = []
+        self._numbers = {}
         self._made = {}
+        self._served = []
+        self._empty = []
+        self.enter(first)
 
     def enter(self, row):
         """The number of a row."""
         if row not in self._numbers:
             self._numbers[row] = len(self.rows)
             self.rows.append(row)
+            self._served.append(any([row[goal] >= COINS for goal in self._goals]))
+            self._empty.append(max(row, default=NOWHERE) < COINS)
         return self._numbers[row]
 
     def behind(self, number, job):
@@ -105,8 +110,7 @@ class RestRows:
 
     def is_served(self, number):
         """Whether a book with this row is served: some end has coins."""
-        row = self.rows[number]
-        return any([row[goal] >= COINS for goal in self._goals])
+        return self._served[number]
 
     def is_bad(self, number):
         """Whether a book with this row can be done, and is not served."""
@@ -115,7 +119,7 @@ class RestRows:
 
     def is_empty(self, number):
         """Whether no room has coins in a row."""
-        return max(self.rows[number], default=NOWHERE) < COINS
+        return self._empty[number]
 
 
 def all_rest_rows(manual, purse):

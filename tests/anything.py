@@ -109,10 +109,19 @@ def bent_dict(value):
         less = {other: held for other, held in value.items() if other != key}
         made.append(less)
         made += [{**less, key: other} for other in bent(thing)]
-        made += [{**less, other: thing} for other in bent(key) if not isinstance(other, list)]
+        made += [{**less, other: thing} for other in bent(key) if is_key(other)]
     for extra in ["a", "b", "q", 1, True, None, ("a",)]:
         made += [{**value, extra: number} for number in (0, 1, True, -1, None)]
     return made
+
+
+def is_key(value):
+    """Whether Python takes an object as a key."""
+    try:
+        hash(value)
+    except TypeError:
+        return False
+    return True
 
 
 def bent_row(value):

@@ -8,7 +8,10 @@ number the call has to end (None if there is no such number).
 
 from tests.anything import CARRY, REST, odd_objects
 from tests.plain import is_plain_change, is_plain_count, is_plain_effect, is_plain_manner, is_plain_word
-from tests.plain_cards import is_plain_card, is_plain_expression, is_plain_mark, is_plain_rests, plain_table
+from tests.plain_cards import (
+    is_plain_card, is_plain_expression, is_plain_mark, is_plain_rests, plain_leaves, plain_table)
+from tests.plain_clerks import plain_rule_choices
+from tests.plain_exchange import is_plain_open
 from withinbooks import errors
 from withinbooks.manuals import Manual
 
@@ -148,3 +151,33 @@ MOVES = argument("changes", lambda: [("effect", REST, ("coins", 0)), ("effect", 
 PLACES = argument("lot", lambda: [0, 1], errors.InvalidLot, [[1, 0], [0, 0], (0, 1), [0, 3], [-1], [True], [0, True]],
                   lambda value: is_list_of(is_plain_count, True)(value) and value in [
                       [], [0], [1], [2], [0, 1], [0, 2], [1, 2], [0, 1, 2]])
+
+
+OWN_EXPRESSION = argument(
+    "one", lambda: ("row", ["carry", ("again", "rest")]), errors.InvalidExpression,
+    ["pray", ("row", ["carry", "pray"]), ("row", ("carry",)), ("again", ("place",)), ("row", [["carry"]])],
+    lambda value: is_plain_expression(value) and set(plain_leaves(value)) <= {"carry", "rest"})
+OTHER_EXPRESSION = {**OWN_EXPRESSION, "name": "other", "right": lambda: ("again", "carry")}
+FRAME = argument("frame", lambda: ("row", [("place",), "carry", ("again", ("row", [("place",)]))]),
+                 errors.InvalidExpression, ["carry", ("row", ["carry"]), ["place"], ("row", (("place",),))], is_plain_open)
+OWN_BOOK = argument("one", lambda: ["carry", "rest"], errors.InvalidBook, [[], ["carry", "pray"], ("carry",), ["carry", 1]],
+                    lambda value: is_list_of(is_plain_word, False)(value) and value and set(value) <= {"carry", "rest"})
+OTHER_BOOK = {**OWN_BOOK, "name": "other", "right": lambda: ["rest", "carry"]}
+GOAL = {**ROOM, "name": "goal", "right": lambda: "out"}
+SPENT_AHEAD = {**AHEAD, "most": 30}
+SPENT_BEHIND = {**BEHIND, "most": 30}
+SEEN_AHEAD = argument("ahead", lambda: 1, errors.InvalidCount, [3, 4, True], lambda value: is_plain_count(value) and value <= 2)
+MOST_AHEAD = {**SEEN_AHEAD, "name": "most"}
+CLERK_PURSE = {**REST_PURSE, "right": lambda: 2}
+CALM = {**MANUAL, "right": freed_manual}
+CLERK_TABLE = argument(
+    "table", lambda: [("", (), ("in",), 1), ("", ("carry",), ("in",), 1), ("", ("rest",), ("in",), 0),
+                      ("in", ("carry",), ("in",), 0), ("in", ("rest",), ("in",), 0)],
+    errors.InvalidTable, [[("", (), ("in",), 1)], [("in", ("carry",), ("in",), 0)]], lambda value: False)
+RULE = argument("rule", lambda: {key: manners[0] for key, manners in plain_rule_choices(second_manual()).items()},
+                errors.InvalidRule, [{("", ("in",), "carry"): CARRY}], lambda value: False)
+OPEN_FILL = ("in", "rest", "in", ("fill", 0, 1))
+FULL_ONE = {**ONE, "wrong": lambda: [Manual([OPEN_FILL], ["in"], ["in"])]}
+FULL = {**MANUAL, "wrong": lambda: [Manual([OPEN_FILL, CARRY], [], ["in"])]}
+MOST_UNLIKE = argument("most", lambda: 2, errors.InvalidCount, [5, 12], lambda value: is_plain_count(value) and value <= 4)
+MANY = argument("many", lambda: 1, errors.InvalidCount, [13, 40], lambda value: is_plain_count(value) and value <= 12)

@@ -1,12 +1,14 @@
 """Every function of the interface that has landed, by module, with its arguments."""
 
 from tests.arguments import (
-    ABOVE_PURSE, AHEAD, BEGINNINGS, BEHIND, BOOK, CARD, CHANGE, CHANGES, EDITIONS, EFFECT, ELDER, ELDER_CALM, ENDS,
-    EXPRESSION, FILLING, GROWING, JOB, LEAST_CARD, LEFT, LOT_OF_JOBS, LOW_PURSE, MANNER, MANNERS, MANUAL, MANUALS, MARK,
-    MOVES, NEWER, NUMBER, ONE, ONE_CARD, OPEN_EXPRESSION, OTHER, OTHER_CARD, OTHER_EFFECT, OTHER_MARK, OTHER_ROOM,
-    PLACES, PURSE, REST_PURSE, ROOM, SECOND_PURSE, SIZE, SPENDING, STEP_PURSE, STRAY, VALUE, WAY, WRITING_NUMBER)
+    ABOVE_PURSE, AHEAD, BEGINNINGS, BEHIND, BOOK, CALM, CARD, CHANGE, CHANGES, CLERK_PURSE, CLERK_TABLE, EDITIONS, EFFECT,
+    ELDER, ELDER_CALM, ENDS, EXPRESSION, FILLING, FRAME, FULL, FULL_ONE, GOAL, GROWING, JOB, LEAST_CARD, LEFT,
+    LOT_OF_JOBS, LOW_PURSE, MANNER, MANNERS, MANUAL, MANUALS, MANY, MARK, MOST_AHEAD, MOST_UNLIKE, MOVES, NEWER, NUMBER,
+    ONE, ONE_CARD, OPEN_EXPRESSION, OTHER, OTHER_BOOK, OTHER_CARD, OTHER_EFFECT, OTHER_EXPRESSION, OTHER_MARK, OTHER_ROOM,
+    OWN_BOOK, OWN_EXPRESSION, PLACES, PURSE, REST_PURSE, ROOM, RULE, SECOND_PURSE, SEEN_AHEAD, SIZE, SPENDING,
+    SPENT_AHEAD, SPENT_BEHIND, STEP_PURSE, STRAY, VALUE, WAY, WRITING_NUMBER)
 from withinbooks import (
-    agains, blame, books, bounds, cards, ceilings, doing, manuals, rests, tables, within)
+    agains, blame, books, bounds, cards, ceilings, clerks, cutting, doing, exchange, made, manuals, rests, tables, within)
 
 FUNCTIONS = {
     "manuals": {
@@ -81,9 +83,38 @@ FUNCTIONS = {
         "emptied": [MANUAL, FILLING], "spare_fills": [ELDER, NEWER], "needed_fills": [ELDER, NEWER],
         "lot_edition": [ELDER, MOVES, PLACES], "straying_lots": [ELDER, MOVES], "staying_lots": [ELDER, MOVES],
     },
+    "exchange": {
+        "are_even": [MANUAL, OWN_EXPRESSION, OTHER_EXPRESSION], "are_same": [MANUAL, OWN_BOOK, OTHER_BOOK],
+        "class_table": [MANUAL], "is_class_table": [MANUAL, VALUE], "is_open": [VALUE],
+        "is_parting_frame": [MANUAL, OWN_EXPRESSION, OTHER_EXPRESSION, VALUE],
+        "is_parting_spendings": [MANUAL, OWN_BOOK, OTHER_BOOK, VALUE],
+        "need_between": [MANUAL, BOOK, ROOM, GOAL, AHEAD, BEHIND],
+        "parting_frame": [MANUAL, OWN_EXPRESSION, OTHER_EXPRESSION],
+        "parting_spendings": [MANUAL, OWN_BOOK, OTHER_BOOK], "put_in": [FRAME, EXPRESSION],
+        "shown_by": [MANUAL, ROOM, SPENT_AHEAD, GOAL, SPENT_BEHIND],
+    },
+    "clerks": {
+        "could_be": [MANUAL, BOOK], "clerk_table": [CALM, CLERK_PURSE, SEEN_AHEAD],
+        "is_clerk_table": [MANUAL, CLERK_PURSE, SEEN_AHEAD, VALUE], "unseen_purse": [MANUAL, SEEN_AHEAD],
+        "purses_ahead": [MANUAL, MOST_AHEAD], "outside_plan": [MANUAL, SEEN_AHEAD],
+        "is_outside_plan": [MANUAL, SEEN_AHEAD, VALUE], "plan_against": [MANUAL, CLERK_PURSE, SEEN_AHEAD],
+        "is_plan_against": [MANUAL, CLERK_PURSE, SEEN_AHEAD, VALUE],
+        "followed": [CALM, CLERK_PURSE, SEEN_AHEAD, CLERK_TABLE, BOOK], "spoiling_book": [MANUAL, CLERK_PURSE, RULE],
+    },
+    "made": {
+        "either_of": [ONE, OTHER], "followed_by": [FULL_ONE, OTHER], "repeated": [FULL], "begun": [MANUAL],
+        "mirrored": [MANUAL], "limited_to": [MANUAL, OTHER], "unlike_book": [ONE, OTHER, MOST_UNLIKE],
+    },
+    "cutting": {
+        "many_pieces": [MANUAL, BOOK], "is_cuttable": [MANUAL, BOOK], "fewest_pieces": [MANUAL, BOOK],
+        "are_fewest_pieces": [MANUAL, BOOK, VALUE], "may_cut": [MANUAL, BOOK], "must_cut": [MANUAL, BOOK],
+        "cuts": [MANUAL], "most_pieces": [MANUAL], "uncut": [MANUAL, MANY], "is_uncut": [MANUAL, MANY, VALUE],
+        "cuts_within": [ELDER, NEWER],
+    },
 }
 MODULES = {"manuals": manuals, "books": books, "doing": doing, "cards": cards, "agains": agains, "tables": tables,
-           "rests": rests, "ceilings": ceilings, "within": within, "bounds": bounds, "blame": blame}
+           "rests": rests, "ceilings": ceilings, "within": within, "bounds": bounds, "blame": blame,
+           "exchange": exchange, "clerks": clerks, "made": made, "cutting": cutting}
 
 
 def all_functions():

@@ -1,5 +1,6 @@
 """Plain reckonings of sections 6 to 8, by the words of the points and without regard to time."""
 
+import functools
 import itertools
 
 from tests.drawn import books_up_to
@@ -76,6 +77,7 @@ def plain_marks_behind(*marks):
     return max(marks, key=ORDER.index)
 
 
+@functools.lru_cache(maxsize=None)
 def plain_behind(one, other):
     size = range(len(one))
     return tuple(tuple(plain_best(plain_marks_behind(one[start][third], other[third][goal]) for third in size)
@@ -96,6 +98,7 @@ def plain_power(card):
             return many
 
 
+@functools.lru_cache(maxsize=None)
 def plain_again(card):
     steady = plain_copies(card, plain_power(card))
     size = range(len(card))

@@ -5,7 +5,8 @@ Where any result of some kind may be returned, the judging function is asked ins
 
 import unittest
 
-from withinbooks import agains, blame, books, bounds, cards, ceilings, doing, manuals, rests, tables, within
+from withinbooks import (
+    agains, blame, books, bounds, cards, ceilings, clerks, cutting, doing, exchange, made, manuals, rests, tables, within)
 from withinbooks.manuals import Manual
 
 BOTH = [("in", "carry", "in", ("coins", 1)), ("in", "rest", "in", ("fill", 0, 0)),
@@ -218,6 +219,109 @@ class ExamplesTest(unittest.TestCase):
         self.assertEqual(blame.cures(first, second), [[pay]])
         moves = [("effect", rest, ("coins", 0)), ("effect", carry, ("coins", 0))]
         self.assertEqual([blame.straying_lots(early, moves), blame.staying_lots(early, moves)], [[[0]], [[0, 1]]])
+
+    def test_section_11(self):
+        manners = [("in", "look", "in", ("coins", 0)), ("in", "carry", "in", ("coins", 1)), ("in", "rest", "in", ("fill", 0, 0))]
+        plain, hop = Manual(manners, ["in"], ["in"]), Manual(HOP, ["in"], ["in", "out"])
+        told = [exchange.class_table(plain), exchange.are_even(plain, "look", ("row", ["look", "look"])),
+                exchange.are_even(plain, "look", "carry")]
+        self.assertEqual(told, [[[(("free",),)], [(("full",),)], [(("many",),)], [(("some",),)]], True, False])
+        anew = ("again", ("place",))
+        more = ("again", ("row", [("place",), "carry"]))
+        told = [exchange.is_parting_frame(plain, "look", "carry", anew),
+                exchange.is_parting_frame(plain, "look", "rest", anew),
+                exchange.is_parting_frame(plain, "look", "rest", more)]
+        self.assertEqual(told, [True, False, True])
+        told = [exchange.put_in(("row", [("place",), "carry"]), "rest"),
+                exchange.need_between(hop, ["carry", "carry"], "in", "in", 1, 4),
+                exchange.need_between(hop, ["carry"], "in", "in", 0, 0)]
+        self.assertEqual(told, [("row", ["rest", "carry"]), 4, None])
+        self.assertTrue(exchange.are_same(plain, ["carry", "rest"], ["carry", "rest", "rest"]))
+        self.assertTrue(exchange.is_parting_spendings(plain, ["carry"], ["rest", "carry"], ("in", 1, "in", 0)))
+        found = exchange.parting_spendings(plain, ["carry"], ["rest", "carry"])
+        self.assertTrue(exchange.is_parting_spendings(plain, ["carry"], ["rest", "carry"], found))
+
+    def section_12(self):
+        free = ("coins", 0)
+        doors = [("start", "x", "high", free), ("start", "x", "low", free), ("high", "x", "high", free),
+                 ("high", "x", "low", free), ("low", "y", "start", free)]
+        shop = Manual(doors + [("high", "y", "start", ("fill", 2, 0)), ("low", "x", "high", ("fill", 3, 0))],
+                      ["start"], ["high", "low", "start"])
+        drain = Manual(doors + [("high", "y", "start", ("coins", 2)), ("low", "x", "high", ("coins", 3))],
+                       ["start"], ["high", "low", "start"])
+        return doors, shop, drain
+
+    def test_section_12(self):
+        free = ("coins", 0)
+        turn = Manual([("odd", "x", "even", free), ("even", "x", "odd", free)], ["even", "odd"], ["even"])
+        told = [clerks.could_be(turn, ["x"]), clerks.purses_ahead(turn, 2), clerks.outside_plan(turn, 0) is None]
+        self.assertEqual(told, [["even", "odd"], [None, None, None], False])
+        _, shop, drain = self.section_12()
+        told = [clerks.purses_ahead(shop, 1), clerks.purses_ahead(drain, 1), clerks.clerk_table(shop, 1, 0),
+                clerks.plan_against(shop, 2, 0)]
+        self.assertEqual(told, [[2, 0], [None, 0], None, None])
+        both = ("high", "low")
+        rows = [("", (), ("start",), 2), ("high", (), both, 2), ("start", (), ("start",), 2)]
+        told = [clerks.is_clerk_table(shop, 2, 0, rows), clerks.is_clerk_table(shop, 2, 0, rows[:2]),
+                clerks.is_clerk_table(drain, 2, 0, rows)]
+        self.assertEqual(told, [True, False, False])
+        self.assertEqual(clerks.followed(shop, 2, 0, rows, ["x", "x", "y"]),
+                         [("start", "x", "high", free), ("high", "x", "high", free), ("high", "y", "start", ("fill", 2, 0))])
+
+    def test_section_12_plans(self):
+        doors, shop, drain = self.section_12()
+        both = ("high", "low")
+        plan = [("", (), ("start",), "x", 0, 1), ("high", (), both, "y", 0, 0), ("low", (), both, "x", 0, 0),
+                ("start", (), ("start",), "x", 0, 1)]
+        told = [clerks.is_outside_plan(drain, 0, plan), clerks.is_outside_plan(shop, 0, plan),
+                clerks.is_outside_plan(drain, 0, plan[:3])]
+        self.assertEqual(told, [True, False, False])
+        near = [("", (), ("start",), 1, "x", 1), ("high", (), both, 1, "y", 0), ("low", (), both, 1, "x", 0)]
+        self.assertEqual([clerks.is_plan_against(shop, purse, 0, near) for purse in [1, 2]], [True, False])
+        high = {("", ("start",), "x"): doors[0], ("start", ("start",), "x"): doors[0], ("high", both, "x"): doors[2],
+                ("low", both, "x"): ("low", "x", "high", ("coins", 3))}
+        high.update({("high", both, "y"): ("high", "y", "start", ("coins", 2)), ("low", both, "y"): doors[4]})
+        self.assertEqual(clerks.spoiling_book(drain, 3, high), ["x", "y", "x", "y"])
+        self.assertEqual(clerks.spoiling_book(drain, 1, high), ["x", "y"])
+
+    def test_section_13(self):
+        toll = Manual([("in", "x", "in", ("coins", 1))], ["in"], ["in"])
+        lamp = Manual([("on", "y", "on", ("coins", 2))], ["on"], ["on"])
+        pair = Manual([("a", "x", "b", ("coins", 0)), ("b", "x", "c", ("coins", 0))], ["a"], ["c"])
+        either, behind = made.either_of(toll, lamp), made.followed_by(toll, lamp)
+        self.assertEqual([books.need_of(either, book) for book in [[], ["x", "x"], ["y"], ["x", "y"]]], [0, 2, 2, None])
+        listed = [[], ["x", "x", "y"], ["x", "y", "y"], ["y", "x"]]
+        self.assertEqual([books.need_of(behind, book) for book in listed], [0, 2, 4, None])
+        told = [books.need_of(made.repeated(toll), ["x"] * 3), books.need_of(made.repeated(pair), []),
+                books.need_of(made.repeated(pair), ["x"] * 3)]
+        self.assertEqual(told, [1, 0, None])
+        step = Manual([("a", "x", "b", ("fill", 1, 2)), ("b", "y", "b", ("coins", 1))], ["a"], ["b"])
+        told = [books.need_of(step, ["x", "y"]), books.need_of(made.mirrored(step), ["y", "x"]), books.need_of(step, []),
+                books.need_of(made.begun(step), []), books.need_of(made.begun(step), ["x"])]
+        self.assertEqual(told, [3, 3, None, 0, 2])
+        self.assertEqual([books.need_of(made.limited_to(toll, pair), book) for book in [["x"], ["x", "x"]]], [None, 2])
+        told = [made.unlike_book(toll, made.repeated(toll), 3), made.unlike_book(toll, made.mirrored(toll), 4)]
+        self.assertEqual(told, [["x", "x"], None])
+
+    def test_section_14(self):
+        free = ("coins", 0)
+        odd = Manual([("in", "a", "out", free), ("out", "a", "in", free)], ["in"], ["out"])
+        lone = Manual([("in", "a", "out", free)], ["in"], ["out"])
+        told = [cutting.many_pieces(odd, ["a"] * 5), cutting.many_pieces(odd, ["a"] * 4), cutting.many_pieces(odd, []),
+                cutting.many_pieces(lone, ["a"] * 4), cutting.is_cuttable(lone, ["b"])]
+        self.assertEqual(told, [1, 2, None, 4, False])
+        told = [cutting.are_fewest_pieces(odd, ["a"] * 4, [["a"], ["a", "a", "a"]]),
+                cutting.are_fewest_pieces(odd, ["a"] * 4, [["a", "a"], ["a", "a"]]),
+                cutting.are_fewest_pieces(odd, ["a"] * 3, [["a"]] * 3)]
+        self.assertEqual(told, [True, False, False])
+        told = [cutting.may_cut(odd, ["a"] * 4), cutting.must_cut(odd, ["a"] * 4), cutting.must_cut(lone, ["a"] * 3),
+                cutting.may_cut(odd, ["a"])]
+        self.assertEqual(told, [[1, 3], [], [1, 2], []])
+        held = Manual([("in", "a", "in", ("coins", 1)), ("in", "a", "out", free)], ["in"], ["out"])
+        self.assertEqual([cutting.cuts(lone) == held, cutting.most_pieces(odd), cutting.most_pieces(lone)], [True, 2, None])
+        told = [cutting.uncut(odd, 0), cutting.uncut(odd, 1), cutting.uncut(odd, 2), cutting.uncut(lone, 2),
+                cutting.cuts_within(lone, odd), cutting.cuts_within(odd, lone)]
+        self.assertEqual(told, [["a"], ["a", "a"], None, ["a", "a", "a"], True, False])
 
 
 if __name__ == "__main__":

@@ -1,8 +1,8 @@
 """Expressions with the fewest jobs, of arguments that have been checked.
 
 Every expression is a row of generators: of jobs, and of agains. A generator is a tuple of
-how many jobs it has, its number in a ledger, its job (None for an again), and the number
-of its body (None for a job).
+how many jobs it has, its number in a ledger, its job, or place (None for an again), and
+the number of its body (None for a job or a place).
 """
 
 from heapq import heappop, heappush
@@ -126,13 +126,13 @@ def cheapest_in(costs, numbers):
     return min([(costs[number], number) for number in numbers if number in costs])[1]
 
 
-def spread_to(ledger, jobs, goals):
-    """A spread over rows and agains of some jobs, up to the first one of some numbers, and this number.
+def spread_to(ledger, generators, goals):
+    """A spread over rows and agains of some generators, up to the first one of some numbers, and this number.
 
     The number is None if the spread comes to none of them.
     """
     spread = Spread(ledger)
-    for generator in job_generators(ledger, jobs):
+    for generator in generators:
         spread.include(generator)
     repeats = {}
     number = spread.take()
@@ -147,7 +147,12 @@ def spread_to(ledger, jobs, goals):
 
 def cheapest_to(ledger, jobs, goals):
     """An expression of some jobs, with as few as can be, that has one of some numbers, None if none has."""
-    spread, number = spread_to(ledger, jobs, goals)
+    return cheapest_over(ledger, job_generators(ledger, jobs), goals)
+
+
+def cheapest_over(ledger, generators, goals):
+    """An expression of some generators, with as few jobs as can be, that has one of some numbers, or None."""
+    spread, number = spread_to(ledger, generators, goals)
     if number is None:
         return None
     return expression_in([spread], number)

@@ -21,6 +21,27 @@ def nesting_of(expression):
     return max([nesting_of(part) for part in expression[1]], default=0)
 
 
+def has_place(expression):
+    """Whether a place stands in an expression."""
+    if isinstance(expression, str):
+        return False
+    if expression[0] == "again":
+        return has_place(expression[1])
+    return expression[0] == "place" or any([has_place(part) for part in expression[1]])
+
+
+def expression_with(frame, expression):
+    """A new expression: a frame with another expression in each place."""
+    if isinstance(frame, str):
+        return frame
+    if frame[0] == "again":
+        return ("again", expression_with(frame[1], expression))
+    if frame[0] == "place":
+        # There is no place in the expression: this makes its lists anew.
+        return expression_with(expression, expression)
+    return ("row", [expression_with(part, expression) for part in frame[1]])
+
+
 def has_jobs_of(expression, jobs):
     """Whether an expression has no other jobs than these."""
     return all([job in jobs for job in leaves_of(expression)])

@@ -6,7 +6,7 @@ from withinbooks.ledgers import CardLedger
 from withinbooks.paths import all_jobs
 from withinbooks.purses import least_need
 from withinbooks.table_bounds import growing_numbers
-from withinbooks.walks import least_serving, shortest_served, shortest_unserved
+from withinbooks.walks import least_serving, shortest_served, shortest_unserved, some_unserved
 
 MOST_BOUND = 40
 
@@ -16,12 +16,12 @@ def least_bound(elder, newer, purse):
 
     None if none of these does.
     """
-    if shortest_unserved(elder, newer, purse, MOST_BOUND) is not None:
+    if some_unserved(elder, newer, purse, MOST_BOUND) is not None:
         return None
     low, high = 0, MOST_BOUND
     while low < high:
         middle = (low + high) // 2
-        book = shortest_unserved(elder, newer, purse, middle)
+        book = some_unserved(elder, newer, purse, middle)
         if book is None:
             high = middle
         else:

@@ -3,6 +3,7 @@
 import copy
 
 from withinbooks import errors
+from withinbooks.house import House
 from withinbooks.manuals import Manual
 
 CARRY = ("in", "carry", "in", ("coins", 1))
@@ -49,6 +50,11 @@ def odd_objects():
         {"manners": [], "beginnings": [], "ends": []}, ([], [], []), [manual], (manual,), {"a": manual}, {(1, "a"): ()},
         errors.InvalidWord("a"), errors.TooMany(), errors.PurseError(), [errors.NothingToUndo()],
         {errors.PurseError(): 1}, deep(59), [deep(30)], (deep(40), deep(50)), manual, Manual([], [], []),
+        House(manual, 1), [House(manual, 12)], {"house": House(manual, 0)}, {House(manual, 2): 1},
+        ("keep",), [("keep",)], ["keep"], [("keep",), ("leave",), ("put", "carry")], [("exchange", "rest")], ("leave", "carry"),
+        ("enter", []), [("enter", [])], [("enter", ["carry"])], [["enter", []]], [("enter", ())], [("tighten",)], [("undo",)],
+        [("close", 0)], [("close", True)], [("widen", 1), ("tighten",)], [("change", [], 1)], [("try", [("lost",)])],
+        [("try", [("try", ())])], "begins in", "begins\nends", "carry rest", "( carry )", "?", "-", "- | -", "free\nsome", "undo",
     ]
 
 
@@ -67,6 +73,8 @@ def twin(value):
     """An equal object that shares no list and no dictionary with the given one."""
     if isinstance(value, Manual):
         return Manual(value.manners(), value.beginnings(), value.ends())
+    if isinstance(value, House):
+        return value.copy()
     if isinstance(value, list):
         return [twin(thing) for thing in value]
     if isinstance(value, tuple):

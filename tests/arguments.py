@@ -12,7 +12,9 @@ from tests.plain_cards import (
     is_plain_card, is_plain_expression, is_plain_mark, is_plain_rests, plain_leaves, plain_table)
 from tests.plain_clerks import plain_rule_choices
 from tests.plain_exchange import is_plain_open
+from tests.plain_mending import plain_mended
 from withinbooks import errors
+from withinbooks.house import House
 from withinbooks.manuals import Manual
 
 AWAY, STAY = ("in", "carry", "out", ("coins", 0)), ("out", "rest", "out", ("coins", 0))
@@ -181,3 +183,80 @@ FULL_ONE = {**ONE, "wrong": lambda: [Manual([OPEN_FILL], ["in"], ["in"])]}
 FULL = {**MANUAL, "wrong": lambda: [Manual([OPEN_FILL, CARRY], [], ["in"])]}
 MOST_UNLIKE = argument("most", lambda: 2, errors.InvalidCount, [5, 12], lambda value: is_plain_count(value) and value <= 4)
 MANY = argument("many", lambda: 1, errors.InvalidCount, [13, 40], lambda value: is_plain_count(value) and value <= 12)
+
+MENDED_BOOK = {**BOOK, "right": lambda: ["carry", "rest"]}
+MENDING = argument("mending", lambda: [("keep",), ("put", "x"), ("exchange", "carry")], errors.InvalidMending,
+                   [[("keep",)], [("keep",)] * 3, (("keep",), ("keep",)), [("exchange", "carry"), ("keep",)], [["keep"], ("keep",)]],
+                   lambda value: plain_mended(["carry", "rest"], value) is not None)
+STOPS = argument("stops", lambda: ["rest", "pray"], errors.InvalidBook, [["rest", "rest"], ("rest",), [["rest"]]],
+                 is_list_of(is_plain_word, True))
+
+
+def is_any_card(value):
+    return type(value) is tuple and is_plain_card(value, len(value))
+
+
+def asked_house():
+    """A house of two promises and a book, with a command that can be made again."""
+    house = House(Manual([CARRY, REST], ["in"], ["in"]), 1)
+    house.widen(2)
+    house.enter(["carry", "rest"])
+    house.enter(["rest"])
+    house.undo()
+    return house
+
+
+def is_log(value):
+    sizes = {"enter": 2, "go_on": 3, "close": 2, "change": 3, "force": 2, "widen": 2, "tighten": 1}
+    return type(value) is list and all(type(one) is tuple and one and type(one[0]) is str and one[0] in sizes
+                                       and len(one) == sizes[one[0]] for one in value)
+
+
+def is_text_of(judge, parts):
+    """A judge of texts of lists, the parts of which are put apart by a string."""
+    def judged(value):
+        return type(value) is str and (value == "" or all(judge(part) for part in value.split(parts)))
+    return judged
+
+
+def is_script_of_odd_objects(value):
+    """Whether an odd object is a script: its lists of commands are few."""
+    return value in [[], [("enter", [])], [("enter", ["carry"])], [("tighten",)], [("undo",)], [("close", 0)],
+                     [("widen", 1), ("tighten",)], [("change", [], 1)], [("try", [("lost",)])]] and "True" not in repr(value)
+
+
+HOUSE_PURSE = argument("purse", lambda: 2, errors.InvalidCount, [13, 40], lambda value: is_plain_count(value) and value <= 12)
+HOUSE = argument("house", asked_house, errors.InvalidHouse, [House], lambda value: type(value) is House)
+LOG = argument("log", lambda: [("go_on", 0, ["rest"]), ("widen", 3)], errors.InvalidLog,
+               [(("tighten",),), [("tighten", 1)], [("enter",)], [("lost",)], [("go_on", 0)]], is_log)
+SCRIPT = argument("script", lambda: [("need", 0), ("try", [("enter", ["rest"]), ("close", 0)]), ("price", []), ("lost",)],
+                  errors.InvalidScript, [(("lost",),), [("lost", 1)], [("go_on", 0)], [("try", [("log",)])]],
+                  is_script_of_odd_objects)
+PLAYED = {**SCRIPT, "right": lambda: [("enter", ["carry"]), ("force", [("start", "out")]), ("try", [("close", 0)]), ("lost",)]}
+CHANGE_FORM = {**CHANGE, "wrong": lambda: [("start", "in", "in"), ["start", "in"]], "judge": is_plain_change}
+CARDS = argument("table", lambda: [TWO_ROOMS_CARD, (("some",),), ()], errors.InvalidTable,
+                 [(TWO_ROOMS_CARD,), [list(TWO_ROOMS_CARD)], [(("some", "free"),)]], is_list_of(is_any_card, False))
+CARD_PAIRS = argument("table", lambda: [(TWO_ROOMS_CARD, ()), ((("some",),), (("free",),))], errors.InvalidTable,
+                      [[TWO_ROOMS_CARD + ((),)], [[(), ()]], [((), (), ())]],
+                      is_list_of(lambda one: type(one) is tuple and len(one) == 2 and all(map(is_any_card, one)), False))
+MANUAL_TEXT = argument("text", lambda: "in carry in coins 1\nbegins in\nends in", errors.InvalidText,
+                       ["begins in\nends in\n", "ends\nbegins"], lambda value: value == "begins\nends")
+CHANGE_TEXT = argument("text", lambda: "put in carry in coins 1", errors.InvalidText, ["put in", "start  in"], lambda value: False)
+BOOK_TEXT = argument("text", lambda: "carry rest", errors.InvalidText, ["carry  rest", " ", "carry\nrest"],
+                     is_text_of(is_plain_word, " "))
+EXPRESSION_TEXT = argument("text", lambda: "( carry ? ( rest ) * )", errors.InvalidText, ["", "(", "( carry", "* carry"],
+                           lambda value: is_plain_word(value) or value in ("?", "( carry )"))
+TABLE_TEXT = argument("text", lambda: "free never / full some\n-", errors.InvalidText, ["free never", "\n", "free / free"],
+                      lambda value: type(value) is str and (value in ("", "-", "free\nsome") or is_plain_mark(value)))
+PAIRS_TEXT = argument("text", lambda: "free | -\n- | some", errors.InvalidText, ["free", "free |", "- | - | -"],
+                      lambda value: type(value) is str and value in ("", "- | -"))
+SCRIPT_TEXT = argument("text", lambda: "enter carry\ntry\n  lost\nend", errors.InvalidText, ["try", "lost ", "\n"],
+                       lambda value: type(value) is str and value in ("", "undo"))
+
+AT = argument("at", lambda: 1, errors.InvalidCount, [2, 3], lambda value: is_plain_count(value) and value < 2)
+SPOT = argument("spot", lambda: 0, errors.InvalidSpot, [1, 2], lambda value: type(value) is int and value == 0)
+ENTERED = {**BOOK, "right": lambda: ["carry", "rest"]}
+HOUSE_CHANGES = {**CHANGES, "right": lambda: [("start", "out")]}
+MOST_PURSE = argument("most", lambda: 2, errors.InvalidCount, [13], lambda value: is_plain_count(value) and value <= 12)
+WIDER = argument("purse", lambda: 4, errors.InvalidCount, [2, 13], lambda value: is_plain_count(value) and 2 < value <= 12)
+ACTION = argument("action", lambda: len, None)

@@ -1,14 +1,17 @@
 """Every function of the interface that has landed, by module, with its arguments."""
 
 from tests.arguments import (
-    ABOVE_PURSE, AHEAD, BEGINNINGS, BEHIND, BOOK, CALM, CARD, CHANGE, CHANGES, CLERK_PURSE, CLERK_TABLE, EDITIONS, EFFECT,
-    ELDER, ELDER_CALM, ENDS, EXPRESSION, FILLING, FRAME, FULL, FULL_ONE, GOAL, GROWING, JOB, LEAST_CARD, LEFT,
-    LOT_OF_JOBS, LOW_PURSE, MANNER, MANNERS, MANUAL, MANUALS, MANY, MARK, MOST_AHEAD, MOST_UNLIKE, MOVES, NEWER, NUMBER,
-    ONE, ONE_CARD, OPEN_EXPRESSION, OTHER, OTHER_BOOK, OTHER_CARD, OTHER_EFFECT, OTHER_EXPRESSION, OTHER_MARK, OTHER_ROOM,
-    OWN_BOOK, OWN_EXPRESSION, PLACES, PURSE, REST_PURSE, ROOM, RULE, SECOND_PURSE, SEEN_AHEAD, SIZE, SPENDING,
-    SPENT_AHEAD, SPENT_BEHIND, STEP_PURSE, STRAY, VALUE, WAY, WRITING_NUMBER)
+    ABOVE_PURSE, ACTION, AHEAD, AT, BEGINNINGS, BEHIND, BOOK, BOOK_TEXT, CALM, CARD, CARD_PAIRS, CARDS, CHANGE, CHANGE_FORM,
+    CHANGE_TEXT, CHANGES, CLERK_PURSE, CLERK_TABLE, EDITIONS, EFFECT, ELDER, ELDER_CALM, ENDS, ENTERED, EXPRESSION,
+    EXPRESSION_TEXT, FILLING, FRAME, FULL, FULL_ONE, GOAL, GROWING, HOUSE, HOUSE_CHANGES, HOUSE_PURSE, JOB, LEAST_CARD,
+    LEFT, LOG, LOT_OF_JOBS, LOW_PURSE, MANNER, MANNERS, MANUAL, MANUAL_TEXT, MANUALS, MANY, MARK, MENDED_BOOK, MENDING,
+    MOST_AHEAD, MOST_PURSE, MOST_UNLIKE, MOVES, NEWER, NUMBER, ONE, ONE_CARD, OPEN_EXPRESSION, OTHER, OTHER_BOOK,
+    OTHER_CARD, OTHER_EFFECT, OTHER_EXPRESSION, OTHER_MARK, OTHER_ROOM, OWN_BOOK, OWN_EXPRESSION, PAIRS_TEXT, PLACES,
+    PLAYED, PURSE, REST_PURSE, ROOM, RULE, SCRIPT, SCRIPT_TEXT, SECOND_PURSE, SEEN_AHEAD, SIZE, SPENDING, SPENT_AHEAD,
+    SPENT_BEHIND, SPOT, STEP_PURSE, STOPS, STRAY, TABLE_TEXT, VALUE, WAY, WIDER, WRITING_NUMBER)
 from withinbooks import (
-    agains, blame, books, bounds, cards, ceilings, clerks, cutting, doing, exchange, made, manuals, rests, tables, within)
+    agains, blame, books, bounds, cards, ceilings, clerks, cutting, doing, exchange, house, made, manuals, mending, papers,
+    rests, scripts, tables, within)
 
 FUNCTIONS = {
     "manuals": {
@@ -111,10 +114,37 @@ FUNCTIONS = {
         "cuts": [MANUAL], "most_pieces": [MANUAL], "uncut": [MANUAL, MANY], "is_uncut": [MANUAL, MANY, VALUE],
         "cuts_within": [ELDER, NEWER],
     },
+    "mending": {
+        "mended_by": [MENDED_BOOK, MENDING], "corrections": [MANUAL, STOPS, BOOK], "best_mending": [MANUAL, STOPS, BOOK],
+        "is_best_mending": [MANUAL, STOPS, BOOK, VALUE], "mends": [ELDER, NEWER, STOPS],
+        "most_corrections": [ELDER, NEWER, STOPS], "unmended": [ELDER, NEWER, STOPS, MANY],
+        "is_unmended": [ELDER, NEWER, STOPS, MANY, VALUE], "unmendable": [ELDER, NEWER, STOPS],
+        "is_unmendable": [ELDER, NEWER, STOPS, VALUE],
+    },
+    "house": {"House": [MANUAL, HOUSE_PURSE], "replayed": [HOUSE, LOG]},
+    "scripts": {
+        "play": [HOUSE, SCRIPT], "script_text": [SCRIPT], "read_script": [SCRIPT_TEXT],
+        "end_of": [MANUAL, HOUSE_PURSE, PLAYED], "shortened": [MANUAL, HOUSE_PURSE, PLAYED],
+    },
+    "papers": {
+        "manual_text": [MANUAL], "read_manual": [MANUAL_TEXT], "change_text": [CHANGE_FORM], "read_change": [CHANGE_TEXT],
+        "book_text": [BOOK], "read_book": [BOOK_TEXT], "expression_text": [OPEN_EXPRESSION],
+        "read_expression": [EXPRESSION_TEXT], "table_text": [CARDS], "read_table": [TABLE_TEXT],
+        "pairs_text": [CARD_PAIRS], "read_pairs": [PAIRS_TEXT],
+    },
+}
+# The methods of a house, with their arguments.
+METHODS = {
+    "manual": [], "purse": [], "promises": [], "broken": [], "broken_book": [AT], "is_broken_book": [AT, VALUE],
+    "first_promise": [BOOK], "enter": [ENTERED], "go_on": [SPOT, ENTERED], "close": [SPOT], "spots": [], "book": [SPOT],
+    "need": [SPOT], "best_way": [SPOT], "is_best_way": [SPOT, VALUE], "lost": [], "price": [HOUSE_CHANGES],
+    "change": [HOUSE_CHANGES, MOST_PURSE], "force": [HOUSE_CHANGES], "widen": [WIDER], "least": [], "tighten": [],
+    "undo": [], "redo": [], "trial": [], "attempt": [ACTION], "copy": [], "log": [],
 }
 MODULES = {"manuals": manuals, "books": books, "doing": doing, "cards": cards, "agains": agains, "tables": tables,
            "rests": rests, "ceilings": ceilings, "within": within, "bounds": bounds, "blame": blame,
-           "exchange": exchange, "clerks": clerks, "made": made, "cutting": cutting}
+           "exchange": exchange, "clerks": clerks, "made": made, "cutting": cutting, "mending": mending, "house": house,
+           "scripts": scripts, "papers": papers}
 
 
 def all_functions():

@@ -6,7 +6,9 @@ Where any result of some kind may be returned, the judging function is asked ins
 import unittest
 
 from withinbooks import (
-    agains, blame, books, bounds, cards, ceilings, clerks, cutting, doing, exchange, made, manuals, rests, tables, within)
+    agains, blame, books, bounds, cards, ceilings, clerks, cutting, doing, exchange, made, manuals, mending, papers, rests,
+    scripts, tables, within)
+from withinbooks.house import House
 from withinbooks.manuals import Manual
 
 BOTH = [("in", "carry", "in", ("coins", 1)), ("in", "rest", "in", ("fill", 0, 0)),
@@ -322,6 +324,78 @@ class ExamplesTest(unittest.TestCase):
         told = [cutting.uncut(odd, 0), cutting.uncut(odd, 1), cutting.uncut(odd, 2), cutting.uncut(lone, 2),
                 cutting.cuts_within(lone, odd), cutting.cuts_within(odd, lone)]
         self.assertEqual(told, [["a"], ["a", "a"], None, ["a", "a", "a"], True, False])
+
+    def test_section_15(self):
+        free = ("coins", 0)
+        loose = Manual([("w", "x", "v", free), ("v", "dot", "w", free), ("w", "dot", "w", free)], ["w"], ["w"])
+        strict = Manual([("w", "x", "v", free), ("v", "dot", "w", free)], ["w"], ["w"])
+        bare = Manual([("w", "x", "w", free)], ["w"], ["w"])
+        self.assertEqual(mending.mended_by(["dot"] * 3, [("exchange", "x"), ("keep",), ("leave",)]), ["x", "dot"])
+        corrections = mending.corrections
+        told = [corrections(strict, [], ["dot"] * 3), corrections(strict, ["dot"], ["dot"] * 3), corrections(strict, [], ["x"]),
+                corrections(strict, ["x"], ["x", "x"]), corrections(bare, ["dot"], ["dot"])]
+        self.assertEqual(told, [2, 1, 1, 1, None])
+        told = [mending.is_best_mending(strict, ["dot"], ["dot", "dot"], [("put", "x"), ("keep",)] * 2),
+                mending.is_best_mending(strict, [], ["dot", "dot"], [("put", "x"), ("keep",)] * 2),
+                mending.is_best_mending(strict, [], ["dot", "dot"], [("exchange", "x"), ("keep",)])]
+        self.assertEqual(told, [True, False, True])
+        told = [mending.most_corrections(loose, strict, ["dot"]), mending.most_corrections(loose, strict, []),
+                mending.most_corrections(strict, loose, [])]
+        self.assertEqual(told, [1, None, 0])
+        self.assertTrue(mending.is_unmended(loose, strict, [], 1, ["dot"] * 3))
+        self.assertTrue(mending.is_unmended(loose, strict, [], 1, mending.unmended(loose, strict, [], 1)))
+        told = [mending.unmended(loose, strict, ["dot"], 0), mending.unmended(loose, strict, ["dot"], 1),
+                mending.unmendable(loose, strict, ["dot"]), mending.unmendable(loose, bare, ["dot"])]
+        self.assertEqual(told, [["dot"], None, None, ["dot"]])
+
+    def test_section_16(self):
+        fill = ("in", "rest", "in", ("fill", 0, 0))
+        one = Manual([("in", "carry", "in", ("coins", 1)), fill], ["in"], ["in"])
+        house = House(one, 2)
+        told = [house.enter(["carry", "carry", "rest", "carry"]), house.need(0), house.promises() == [(one, 2)],
+                house.first_promise(["carry"] * 3)]
+        self.assertEqual(told, [0, 2, True, None])
+        cheap = [("put", ("in", "carry", "in", ("coins", 0)))]
+        told = [house.price(cheap), house.change(cheap, 5), house.purse(), house.need(0), len(house.promises())]
+        self.assertEqual(told, [0, 0, 0, 0, 2])
+        tired = [("out", fill), ("put", ("in", "rest", "in", ("coins", 0)))]
+        self.assertEqual([house.undo(), house.purse(), house.price([("out", fill)]), house.price(tired)], [None, 2, None, None])
+        told = [house.force(tired), house.broken(), house.lost(), house.need(0), house.least()]
+        self.assertEqual(told, [None, [0], [0], 3, None])
+        told = [house.is_broken_book(0, ["carry", "rest", "carry", "carry"]), house.is_broken_book(0, ["carry"] * 4),
+                house.broken_book(1)]
+        self.assertEqual(told, [True, False, None])
+        self.assertEqual([house.undo(), house.widen(4), house.least(), house.lost(), house.undo()], [None, None, 4, [], None])
+        idle = House(Manual([fill], ["in"], ["in"]), 3)
+        self.assertEqual([idle.least(), idle.tighten(), idle.purse(), len(idle.promises())], [0, 0, 0, 1])
+
+    def test_section_17(self):
+        fill = ("in", "rest", "in", ("fill", 0, 0))
+        one = Manual([("in", "carry", "in", ("coins", 1)), fill], ["in"], ["in"])
+        cheap = [("put", ("in", "carry", "in", ("coins", 0)))]
+        day = [("enter", ["carry", "rest", "carry"]), ("change", cheap, 3), ("need", 0), ("force", [("out", fill)]), ("lost",),
+               ("broken",), ("undo",)]
+        self.assertEqual(scripts.play(House(one, 1), day), [("entered", 0), ("purse", 0), ("need", 0), ("done",), ("lost", [0]),
+                                                            ("broken", [0, 1]), ("done",)])
+        self.assertEqual(scripts.play(House(one, 0), day)[0], ("refused", "Refused"))
+        told = [scripts.end_of(one, 1, day)[1:], scripts.read_script(scripts.script_text(day)) == day]
+        self.assertEqual(told, [(0, {0: ["carry", "rest", "carry"]}), True])
+        self.assertEqual(scripts.shortened(one, 1, [("enter", ["rest"]), ("lost",), ("undo",), ("redo",)]),
+                         [("enter", ["rest"]), ("redo",)])
+
+    def test_section_18(self):
+        carry, rest = ("in", "carry", "in", ("coins", 1)), ("in", "rest", "in", ("fill", 0, 0))
+        self.assertEqual(papers.manual_text(Manual([rest, carry], ["in"], ["in"])),
+                         "in carry in coins 1\nin rest in fill 0 0\nbegins in\nends in")
+        told = [papers.read_manual("begins\nends") == Manual([], [], []),
+                papers.change_text(("effect", carry, ("fill", 0, 1))), papers.read_change("unstop in")]
+        self.assertEqual(told, [True, "effect in carry in coins 1 fill 0 1", ("unstop", "in")])
+        told = [papers.expression_text(("row", ["carry", ("again", ("row", ["rest"]))])), papers.read_expression("carry * *"),
+                papers.read_expression("( )")]
+        self.assertEqual(told, ["( carry ( rest ) * )", ("again", ("again", "carry")), ("row", [])])
+        pairs = [((("free",),), (("free", "never"), ("never", "free"))), ((), ())]
+        told = [papers.table_text([(("free",),), (("some",),)]), papers.pairs_text(pairs)]
+        self.assertEqual(told, ["free\nsome", "free | free never / never free\n- | -"])
 
 
 if __name__ == "__main__":

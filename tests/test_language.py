@@ -9,6 +9,7 @@ import re
 import unittest
 
 from tests.asked import FUNCTIONS
+from tests.asked import METHODS as HOUSE_METHODS
 from tests.test_errors import WITH_FIELD, WITHOUT_FIELD
 
 FOLDER = os.path.join(os.path.dirname(os.path.dirname(os.path.abspath(__file__))), "withinbooks")
@@ -252,11 +253,36 @@ class WordsOfTheLanguageTest(unittest.TestCase):
         classes = [node.name for node in held["errors"].body if isinstance(node, ast.ClassDef)]
         self.assertEqual(sorted(classes), sorted(WITH_FIELD + WITHOUT_FIELD + ["PurseError"]))
 
+    def methods_of(self, module, name):
+        """From each method that stands in a class itself to its parameters."""
+        [held] = [node for node in trees()[module].body if isinstance(node, ast.ClassDef) and node.name == name]
+        return {node.name: [one.arg for one in node.args.args] for node in held.body if isinstance(node, ast.FunctionDef)}
+
     def test_every_method_of_the_interface_stands_in_its_class(self):
-        [manual] = [node for node in trees()["manuals"].body if isinstance(node, ast.ClassDef)]
-        methods = {node.name: [one.arg for one in node.args.args] for node in functions_in(manual)}
-        self.assertEqual(methods, {"__init__": ["self", "manners", "beginnings", "ends"], "manners": ["self"],
-                                   "beginnings": ["self"], "ends": ["self"], "__eq__": ["self", "other"]})
+        self.assertEqual(self.methods_of("manuals", "Manual"), {
+            "__init__": ["self", "manners", "beginnings", "ends"], "manners": ["self"], "beginnings": ["self"],
+            "ends": ["self"], "__eq__": ["self", "other"]})
+        methods = self.methods_of("house", "House")
+        for name, arguments in HOUSE_METHODS.items():
+            self.assertEqual(methods[name], ["self"] + [asked["name"] for asked in arguments])
+
+    def test_no_name_is_a_method_and_an_attribute(self):
+        for name, tree in trees().items():
+            for held in [node for node in tree.body if isinstance(node, ast.ClassDef)]:
+                methods = [node.name for node in held.body if isinstance(node, ast.FunctionDef)]
+                self.assertEqual(len(methods), len(set(methods)), (name, held.name))
+                assigned = {node.attr for node in ast.walk(held)
+                            if isinstance(node, ast.Attribute) and isinstance(node.ctx, ast.Store)}
+                self.assertFalse(assigned & set(methods), (name, held.name))
+
+    def test_double_underscore_methods(self):
+        known = {"__init__", "__eq__", "__enter__", "__exit__"}
+        for name, tree in trees().items():
+            for node in functions_in(tree):
+                self.assertTrue(not node.name.startswith("__") or node.name in known, (name, node.name))
+                if node.name == "__exit__":
+                    self.assertTrue(all(isinstance(row, ast.Assign) and isinstance(row.value, ast.Attribute)
+                                        for row in node.body), name)
 
     def test_every_file_and_function_tells_what_it_is_for(self):
         for name, tree in trees().items():

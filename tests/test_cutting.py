@@ -58,7 +58,7 @@ class PiecesTest(unittest.TestCase):
                 self.assertEqual(must_cut(manual, book), plain.plain_must_cut(manual, book))
                 self.assertTrue(all(are_fewest_pieces(manual, book, cutting) is True for cutting in fewest))
                 many[len(fewest[0])] = many.get(len(fewest[0]), 0) + 1
-        self.assertTrue(all(many[size] > 10 for size in range(1, 6)), many)
+        self.assertTrue(all(many[size] > 5 for size in range(1, 6)), many)
 
     def lanes(self):
         """Its pieces have one or three jobs."""
@@ -70,12 +70,20 @@ class PiecesTest(unittest.TestCase):
         for manual in BARE + lone_cuts(502, 30):
             for book in books_up_to(jobs_of(manual), 4)[::4]:
                 cuttings = plain.all_cuttings(manual, book)
-                values = cuttings + odd_objects()[::17] + [cutting + [[]] for cutting in cuttings]
+                values = cuttings + odd_objects()[::17] + [cutting + [[]] for cutting in cuttings] + plain.all_cuts(book)
                 for value in values + [bend for cutting in cuttings[:2] for bend in bent(cutting)[::3]]:
                     right = plain.is_plain_fewest(manual, book, value)
                     self.assertIs(are_fewest_pieces(manual, book, value), right, repr(value))
                     judged[right] += 1
-        self.assertGreater(min(judged.values()), 50)
+        self.assertGreater(min(judged.values()), 25)
+
+    def test_longer_beginnings_of_fewer_pieces(self):
+        steps = [("s", "a", "e"), ("s", "b", "e"), ("s", "d", "e"), ("s", "a", "f"), ("f", "b", "g"), ("g", "c", "e"),
+                 ("s", "c", "h"), ("h", "d", "e")]
+        manual, book = Manual([step + (("coins", 0),) for step in steps], ["s"], ["e"]), ["a", "b", "c", "d"]
+        self.assertEqual(fewest_pieces(manual, book), [["a", "b", "c"], ["d"]])
+        self.assertEqual([may_cut(manual, book), must_cut(manual, book)], [[3], [3]])
+        self.assertIs(are_fewest_pieces(manual, book, [["a"], ["b"], ["c", "d"]]), False)
 
     def test_the_empty_book(self):
         done, undone = BARE[4], BARE[5]
@@ -145,7 +153,7 @@ class CutsTest(unittest.TestCase):
                     right = pieces is not None and pieces > many and len(value) == len(found)
                     self.assertIs(is_uncut(manual, many, value), right, repr(value))
                     judged[right] += 1
-        self.assertGreater(min(judged.values()), 40)
+        self.assertGreater(min(judged.values()), 20)
 
     def test_wrong_numbers(self):
         for wrong in [13, -1, True, None, "1", [1]]:

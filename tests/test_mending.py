@@ -117,6 +117,16 @@ class MendingsTest(unittest.TestCase):
                     function(*passed)
                 self.assertIs(caught.exception.value, wrong)
 
+    def test_puts_one_behind_the_other(self):
+        """From room to room against their order, and in it."""
+        for names in ["abcd", "dcba", "badc", "cadb"]:
+            manners = [(one, job, two, ("coins", 0)) for one, job, two in zip(names, ["p", "q", "p"], names[1:])]
+            manual = Manual(manners, [names[0]], [names[3]])
+            self.assertEqual([corrections(manual, [], []), corrections(manual, [], ["q"]), corrections(manual, ["q"], ["q"])], [3, 2, 1])
+            self.assertEqual(best_mending(manual, [], []), [("put", "p"), ("put", "q"), ("put", "p")])
+            self.assertEqual(best_mending(manual, ["q"], ["q"]), [("put", "p"), ("keep",), ("put", "p")])
+            self.assertEqual([corrections(manual, ["q"], []), corrections(manual, [], ["none"] * 4)], [None, 4])
+
     def test_stops_are_counted_in_the_book(self):
         """A stop that is put in by nobody parts nothing; one that stands twice in the book parts twice."""
         strict = Manual([("w", "x", "v", ("coins", 0)), ("v", "dot", "w", ("coins", 0))], ["w"], ["w"])
@@ -132,20 +142,16 @@ class MendsTest(unittest.TestCase):
         return made + list(zip(dense(seed, many), dense(seed + 1, many, manners=4)[::-1]))
 
     def test_mends(self):
-        several = 0
         for at, (elder, newer) in enumerate(self.pairs(610, 40)):
             for stops in [STOPS[at % 6], STOPS[(at + 1) % 6]]:
                 made = mends(elder, newer, stops)
                 self.assertTrue(made == plain.plain_mends(elder, newer, stops))
-                fills = [manner[:3] for manner in made.manners() if manner[3][0] == "fill"]
-                several += len(set(fills)) < len(fills)
                 for book in books_up_to(jobs_of(elder) + ["none"], 3):
                     need = corrections(newer, stops, book) if does(elder, book) else None
                     if book:
                         self.assertEqual(need_of(made, book), need)
                     else:
                         self.assertTrue(need_of(made, book) is None or does(elder, book))
-        self.assertGreater(several, 0)
 
     def test_letters(self):
         """Each pair of rooms uses up a letter, and one without a manner does, too."""
@@ -197,7 +203,7 @@ class MendsTest(unittest.TestCase):
                         self.assertIs(is_unmended(elder, newer, stops, many, found), True)
                     for book in books[:30]:
                         self.assertIs(is_unmended(elder, newer, stops, many, book), len(book) == len(found))
-        self.assertTrue(all(told.get(most, 0) > 5 for most in [None, 0, 1]) and len(told) > 3, told)
+        self.assertTrue(all(told.get(most, 0) > 2 for most in [None, 0, 1]), told)
 
     def test_unmendable(self):
         told = {}
@@ -266,9 +272,11 @@ class MendsTest(unittest.TestCase):
                 with self.assertRaises(errors.InvalidCount) as caught:
                     function(BARE[4], BARE[5], [], wrong, *passed)
                 self.assertIs(caught.exception.value, wrong)
+        self.assertEqual(unmended(BARE[4], BARE[1], [], 12), ["x"] * 13)
+        self.assertTrue(is_unmended(BARE[4], BARE[1], [], 12, ["x"] * 13))
         refused = set()
-        wide = dense(614, 12, rooms=3, jobs=3, manners=9)
-        for elder, newer in list(zip(wide, wide[1:])) + list(zip(wide, dense(615, 12))):
+        wide = dense(614, 30, rooms=3, jobs=3, manners=9)
+        for elder, newer in list(zip(wide, wide[1:])) + list(zip(wide, dense(615, 30))):
             try:
                 least_purse(mends(elder, newer, ["x"]))
             except errors.TooMany as caught:

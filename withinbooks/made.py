@@ -2,7 +2,7 @@
 
 from withinbooks.errors import InvalidCount, InvalidManual
 from withinbooks.joined import does_nothing, filling_on, leaves_full, placed_manners, placed_rooms, worded
-from withinbooks.manuals import Manual, check_both, check_manual, struck, trimmed
+from withinbooks.manuals import Manual, check_both, check_manual, lean, struck, trimmed
 from withinbooks.needs import first_unlike
 from withinbooks.paths import all_rooms
 from withinbooks.shapes import is_count
@@ -11,8 +11,9 @@ MOST_JOBS = 4
 
 
 def _manual_of(manners, beginnings, ends):
+    """A manual with words for places, without what no book needs: so it is as small as the limits ask for."""
     manners, beginnings, ends = worded(manners, beginnings, ends)
-    return Manual(manners, beginnings, ends)
+    return lean(trimmed(Manual(manners, beginnings, ends)))
 
 
 def _check_full(manual):
@@ -81,7 +82,7 @@ def limited_to(manual, other):
     manners = [((manner[0], room), manner[1], (manner[2], goal), manner[3])
                for manner in manual.manners() for room, job, goal in moves if job == manner[1]]
     beginnings = [(room, start) for room in manual.beginnings() for start in other.beginnings()]
-    return trimmed(_manual_of(manners, beginnings, [(room, end) for room in manual.ends() for end in other.ends()]))
+    return _manual_of(manners, beginnings, [(room, end) for room in manual.ends() for end in other.ends()])
 
 
 def unlike_book(one, other, most):

@@ -84,9 +84,10 @@ class Mender:
         """Take all puts into a row."""
         found = True
         while found:
-            offers = [offer(row, other, row[room][0] + 1, room, ("put", job))
-                      for room, job, other, _ in self._free if room in row]
-            found = any(offers)
+            found = False
+            for room, job, other, _ in self._free:
+                if room in row and offer(row, other, row[room][0] + 1, room, ("put", job)):
+                    found = True
 
     def _row_behind(self, row, job):
         """The row behind one job more, which is no stop."""

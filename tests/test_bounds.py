@@ -120,6 +120,17 @@ class BoundTest(FoundTest):
                 self.check_hardest(elder, newer, purse, bound, book, rights)
         self.assertTrue({None, 0, 1, 2, 3, 4, 5, 6} <= set(seen), seen)
 
+    def test_books_that_leave_coins_in_other_rooms(self):
+        """Of two books neither leaves less than the other one, and only one of them is followed by what is dear."""
+        jobs = ["u", "x", "y"]
+        elder = Manual([("e", job, "e", ("coins", 0)) for job in jobs], ["e"], ["e"])
+        for one, two in [("x", "y"), ("y", "x")]:
+            manners = [("s", "u", "t", ("coins", 0)), ("s", one, "a", ("coins", 3)), ("s", two, "b", ("coins", 3)),
+                       ("a", "u", "t", ("coins", 3)), ("a", "x", "t", ("coins", 0)), ("a", "y", "t", ("coins", 0))]
+            manners += [(room, job, "t", ("coins", 0)) for room in "bt" for job in jobs]
+            newer = Manual(manners, ["s"], ["a", "b", "s", "t"])
+            self.assertEqual([bound_at(elder, newer, 0), hardest_at(elder, newer, 0)], [6, [one, "u"]])
+
     def check_hardest(self, elder, newer, purse, bound, book, rights):
         def judge(value):
             return is_hardest_at(elder, newer, purse, value)

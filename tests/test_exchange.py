@@ -191,7 +191,7 @@ class ClassTablesTest(unittest.TestCase):
             table = least_table(manual)
             if len(table) > 9:
                 continue
-            values = bent(classes)[::4] + odd_objects()[::9] + [classes[::-1], [[card] for card in table], [table]]
+            values = bent(classes)[::4] + odd_objects()[::9] + [classes + [[]], [[]] + classes, classes[::-1], [[card] for card in table], [table]]
             values += [classes[:at] + [held[:cut], held[cut:]] + classes[at + 1:]
                        for at, held in enumerate(classes) for cut in range(1, len(held))]
             values += [classes[:at] + [sorted(classes[at] + classes[at + 1])] + classes[at + 2:]

@@ -40,7 +40,7 @@ class Held:
 
     def holding(self, spot, book):
         """What is held with another book at a spot, with none if the book is None."""
-        books = {other: self.lying[other] for other in self.lying if other != spot or book is not None}
+        books = {other: self.lying[other] for other in self.lying if other != spot}
         if book is not None:
             books[spot] = book
         return Held(self.edition, self.coins, self.pledges, books, self.entered)

@@ -267,13 +267,16 @@ class WordsOfTheLanguageTest(unittest.TestCase):
             self.assertEqual(methods[name], ["self"] + [asked["name"] for asked in arguments])
 
     def test_no_name_is_a_method_and_an_attribute(self):
+        """Not in one class, and, which is more than is asked for, in none of all classes."""
+        all_methods, all_assigned = set(), set()
         for name, tree in trees().items():
             for held in [node for node in tree.body if isinstance(node, ast.ClassDef)]:
                 methods = [node.name for node in held.body if isinstance(node, ast.FunctionDef)]
                 self.assertEqual(len(methods), len(set(methods)), (name, held.name))
-                assigned = {node.attr for node in ast.walk(held)
-                            if isinstance(node, ast.Attribute) and isinstance(node.ctx, ast.Store)}
-                self.assertFalse(assigned & set(methods), (name, held.name))
+                all_methods |= set(methods)
+                all_assigned |= {node.attr for node in ast.walk(held)
+                                 if isinstance(node, ast.Attribute) and isinstance(node.ctx, ast.Store)}
+        self.assertFalse(all_methods & all_assigned)
 
     def test_double_underscore_methods(self):
         known = {"__init__", "__eq__", "__enter__", "__exit__"}

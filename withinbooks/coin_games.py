@@ -38,7 +38,7 @@ class CoinGame:
 
     def __init__(self, manual, purse, ahead):
         self.boards = Boards(manual, ahead)
-        self.purse = purse
+        self._purse = purse
         self._moves = self.boards.all_moves()
         self._last = {}
         self.needs = {}
@@ -78,17 +78,17 @@ class CoinGame:
         """What a board asks, with the present needs of the boards behind it."""
         asked = self._last[board]
         for moves in self._moves[board].values():
-            needs = [coins_for(effect, self.needs[other], self.purse) for _, effect, other in moves]
-            asked = max(asked, min(needs, default=self.purse + 1))
+            needs = [coins_for(effect, self.needs[other], self._purse) for _, effect, other in moves]
+            asked = max(asked, min(needs, default=self._purse + 1))
         return asked
 
     def is_enough(self):
         """Whether the purse is enough for a clerk."""
-        return self.needs[self.boards.first()] <= self.purse
+        return self.needs[self.boards.first()] <= self._purse
 
     def table(self):
         """The clerk's table of all boards at which some coins are enough."""
-        return sorted([board + (coins,) for board, coins in self.needs.items() if coins <= self.purse])
+        return sorted([board + (coins,) for board, coins in self.needs.items() if coins <= self._purse])
 
     def risen_at(self, board, coins):
         """The round in which a board began to need more than so many coins, None if it never did."""
@@ -103,7 +103,7 @@ class CoinGame:
             return ("", [])
         at = self.risen_at(board, coins)
         for job, moves in self._moves[board].items():
-            paid = [(other, coins_left(effect, coins, self.purse)) for _, effect, other in moves]
+            paid = [(other, coins_left(effect, coins, self._purse)) for _, effect, other in moves]
             left = [(other, rest) for other, rest in paid if rest is not None]
             counts = [self.risen_at(other, rest) for other, rest in left]
             if all([count is not None and count < at for count in counts]):
@@ -113,7 +113,7 @@ class CoinGame:
     def plan(self):
         """The plan against the purse: the rows that it comes to from the first board."""
         rows = {}
-        waiting = [(self.boards.first(), self.purse)]
+        waiting = [(self.boards.first(), self._purse)]
         while waiting:
             board, coins = waiting.pop()
             if (board, coins) not in rows:

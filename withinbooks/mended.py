@@ -23,9 +23,9 @@ def job_effects(mender, newer, job, stops):
     found = {}
     rooms = all_rooms(newer)
     doing = [(manner[0], manner[2]) for manner in newer.manners() if manner[1] == job]
-    puts = {room: mender.costs(room, []) for room in rooms}
+    puts = {room: mender.fewest_from(room, []) for room in rooms}
     for start in rooms:
-        costs = {} if job in stops else mender.costs(start, [job])
+        costs = {} if job in stops else mender.fewest_from(start, [job])
         for goal in rooms:
             effects = [("coins", costs[goal])] if goal in costs else []
             if job in stops:

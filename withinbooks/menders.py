@@ -110,7 +110,7 @@ class Mender:
             rows.append(self._row_behind(rows[-1], job))
         return rows
 
-    def costs(self, start, jobs):
+    def fewest_from(self, start, jobs):
         """From each room to which some jobs that are no stops lead from a room to the fewest corrections."""
         return {room: held[0] for room, held in self.rows_from(start, jobs)[-1].items()}
 
@@ -143,7 +143,7 @@ class Mender:
         made = {}
         doing = [(room, other) for room, job, other, _ in self._manual.manners() if job == stop]
         for start, held in worst.items():
-            costs = self.costs(start, jobs)
+            costs = self.fewest_from(start, jobs)
             for room, other in doing:
                 if room in costs:
                     offer(made, other, max(held[0], costs[room]), start, room)
@@ -153,7 +153,7 @@ class Mender:
         """The ends behind the last jobs, with the least need of a mending, and where it comes from."""
         made = {}
         for start, held in worst.items():
-            costs = self.costs(start, jobs)
+            costs = self.fewest_from(start, jobs)
             for room in self._manual.ends():
                 if room in costs:
                     offer(made, room, max(held[0], costs[room]), start, room)

@@ -12,13 +12,13 @@ class Spendings:
     """What the parts of ways between two rooms spend that do a book: none that others beat are kept."""
 
     def __init__(self):
-        self.least = None
+        self.lowest = None
         self.filled = []
 
     def add_sum(self, spent):
         """Add a part without fills."""
-        if self.least is None or spent < self.least:
-            self.least = spent
+        if self.lowest is None or spent < self.lowest:
+            self.lowest = spent
 
     def add_filled(self, part):
         """Add a part with fills."""
@@ -29,18 +29,18 @@ class Spendings:
     def need_at(self, ahead, behind):
         """The least purse for a part with so many coins spent ahead and behind, None if there is no part."""
         needs = [max(ahead + first, middle, last + behind) for first, middle, last in self.filled]
-        if self.least is not None:
-            needs.append(ahead + self.least + behind)
+        if self.lowest is not None:
+            needs.append(ahead + self.lowest + behind)
         return min(needs, default=None)
 
     def told(self):
         """All that is kept: equal for what needs the same with whatever is spent ahead and behind."""
-        return (self.least, sorted(self.filled))
+        return (self.lowest, sorted(self.filled))
 
     def all_numbers(self):
         """All numbers that are kept."""
         held = [number for part in self.filled for number in part]
-        return held if self.least is None else held + [self.least]
+        return held if self.lowest is None else held + [self.lowest]
 
 
 def is_no_more(part, other):
@@ -51,13 +51,13 @@ def is_no_more(part, other):
 def add_behind(held, effect, made):
     """Add to some spendings those of parts that go on with an effect."""
     if effect[0] == "coins":
-        if held.least is not None:
-            made.add_sum(held.least + effect[1])
+        if held.lowest is not None:
+            made.add_sum(held.lowest + effect[1])
         for first, middle, last in held.filled:
             made.add_filled((first, middle, last + effect[1]))
         return
-    if held.least is not None:
-        made.add_filled((held.least + effect[1], 0, effect[2]))
+    if held.lowest is not None:
+        made.add_filled((held.lowest + effect[1], 0, effect[2]))
     for first, middle, last in held.filled:
         made.add_filled((first, max(middle, last + effect[1]), effect[2]))
 

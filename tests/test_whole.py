@@ -6,6 +6,7 @@ import unittest
 from tests.anything import same, spoil, twin
 from tests.arguments import right_values
 from tests.asked import all_functions
+from tests.bounded_manuals import manual_with_121_cards, pair_with_201_pairs
 from tests.drawn import books_up_to, close_pairs, drawn_manuals, drawn_pairs
 from tests.test_made import made_full
 from tests.test_rules import told
@@ -46,6 +47,34 @@ class AskedAgainTest(unittest.TestCase):
 
     def test_names_by_module(self):
         self.assertEqual(len(all_functions()), 199)
+
+
+class TooManyTest(unittest.TestCase):
+    def test_nowhere_else(self):
+        """With too many cards, and too many pairs, only what the points name is refused."""
+        many, (elder, newer) = manual_with_121_cards(), pair_with_201_pairs()
+        job = manuals.jobs_of(many)[0]
+        calls = [(exchange.is_class_table, [many, [[(("free",),)]]]), (exchange.are_same, [many, [job], [job, job]]),
+                 (exchange.parting_spendings, [many, [job], [job, job]]), (exchange.need_between, [many, [job], "a", "b", 1, 1]),
+                 (exchange.shown_by, [many, "a", 1, "b", 1]), (exchange.is_parting_spendings, [many, [job], [job, job], None]),
+                 (cutting.uncut, [many, 3]), (cutting.is_uncut, [many, 3, [job]]), (cutting.cuts, [many]),
+                 (cutting.must_cut, [many, [job] * 9]), (made.either_of, [many, many]), (made.limited_to, [many, many]),
+                 (made.unlike_book, [elder, newer, 4]), (clerks.clerk_table, [many, 3, 2]), (clerks.outside_plan, [many, 2]),
+                 (clerks.plan_against, [many, 3, 2]), (clerks.is_clerk_table, [many, 3, 2, []]),
+                 (mending.mends, [elder, newer, []]), (mending.unmended, [elder, newer, [], 2]),
+                 (mending.is_unmended, [elder, newer, [], 2, [job]]), (mending.unmendable, [elder, newer, [job]]),
+                 (mending.is_unmendable, [elder, newer, [job], [job]]), (mending.unmended, [many, many, [job], 2])]
+        for function, passed in calls:
+            function(*passed)
+        for first, second in [(elder, newer), (newer, elder), (many, elder)]:
+            house = House(first, 3)
+            changes = manuals.told_changes(first, second)
+            told = [house.price(changes), house.least(), house.force(changes), house.broken(), house.price(changes[:0])]
+            self.assertEqual(len(told), 5)
+            self.assertEqual(scripts.play(house, [("least",), ("lost",), ("broken",)])[1], ("lost", []))
+        for function, passed in [(exchange.class_table, [many]), (exchange.are_even, [many, job, job]),
+                                 (within.is_within, [elder, newer])]:
+            self.assertRaises(TooMany, function, *passed)
 
 
 class TiesTest(unittest.TestCase):

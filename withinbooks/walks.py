@@ -125,7 +125,9 @@ def some_book(walk, jobs):
     while waiting:
         _, spot = heappop(waiting)
         # What was beaten since then matters only for shortest books.
-        for job in jobs if walk.is_kept(spot) else []:
+        if not walk.is_kept(spot):
+            continue
+        for job in jobs:
             other = walk.behind(spot, job)
             if other is None or other in ahead or walk.is_beaten(other):
                 continue
